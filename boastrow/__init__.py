@@ -1,0 +1,1 @@
+"""Boastrow: people in a row who tell how many behind them speak truly."""

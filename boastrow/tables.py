@@ -1,0 +1,167 @@
+"""Tables: how many of a row speak truly, of each company; what never comes, what folds; tables put together."""
+
+from boastrow.errors import NoStretches, NoTable, TooMany
+from boastrow.levels import added_up, companies_within, least_to_total, level_at, levelled, starts_of
+from boastrow.rows import is_number, is_saying, need_number, need_row
+
+MOST_FOLDS = 300
+
+
+def is_step(thing):
+    """Whether the thing is a tuple of two numbers."""
+    return isinstance(thing, tuple) and len(thing) == 2 and is_number(thing[0]) and is_number(thing[1])
+
+
+def is_table(thing):
+    """Whether the thing is a table, a row's or not."""
+    if not isinstance(thing, list) or not thing or not all([is_step(one) for one in thing]):
+        return False
+    if thing[0][0] != 0:
+        return False
+    return all([one[0] < other[0] and one[1] != other[1] for one, other in zip(thing, thing[1:])])
+
+
+def is_rows(thing):
+    """Whether the thing is some row's table."""
+    return is_table(thing) and all([one[1] <= other[1] + 1 for one, other in zip(thing, thing[1:])])
+
+
+def need_table(thing):
+    """Refuse what is no table."""
+    if not is_table(thing):
+        raise NoTable("a list of tuples (c, many) is wanted, c rising from 0")
+
+
+def need_rows_table(thing):
+    """Refuse what is no row's table."""
+    if not is_rows(thing):
+        raise NoTable("a table that never falls by two is wanted")
+
+
+def table_of(row):
+    """The row's table."""
+    need_row(row)
+    changes = {}
+    for place in range(len(row)):
+        stretch = companies_within(row[place + 1:], row[place])
+        if stretch is not None:
+            first, last = stretch
+            changes[first] = changes.get(first, 0) + 1
+            if last is not None:
+                changes[last + 1] = changes.get(last + 1, 0) - 1
+    return added_up(changes)
+
+
+def total_by(table, company):
+    """The total at the company, also of a table that is no row's."""
+    need_table(table)
+    need_number(company)
+    return company + level_at(table, company)
+
+
+def never_comes(table):
+    """The totals that come of no company, as stretches."""
+    need_rows_table(table)
+    out = []
+    ahead = 0
+    for c, many in table:
+        if many > ahead:
+            out.append((c + ahead, c + many - 1))
+        ahead = many
+    return out
+
+
+def folds(table):
+    """The companies that come to the same total as the next one, as stretches."""
+    need_rows_table(table)
+    out = []
+    ahead = 0
+    for c, many in table:
+        if many < ahead:
+            begun = c - 1
+            if out and out[-1][1] == c - 2:
+                begun = out.pop()[0]
+            out.append((begun, c - 1))
+        ahead = many
+    return out
+
+
+def is_stretch(thing):
+    """Whether the thing is a tuple (first, last): just what a saying is by its form."""
+    return is_saying(thing)
+
+
+def is_stretches(thing):
+    """Whether the thing is a rising list of stretches, none touching the next one."""
+    if not isinstance(thing, list) or not all([is_stretch(one) for one in thing]):
+        return False
+    return all([one[1] is not None and other[0] > one[1] + 1 for one, other in zip(thing, thing[1:])])
+
+
+def need_bounded(thing):
+    """Refuse what is no stretches, or goes on without bound."""
+    if not is_stretches(thing) or (thing and thing[-1][1] is None):
+        raise NoStretches("a rising list of stretches that end is wanted")
+
+
+def size_of(stretches):
+    """How many numbers the stretches have, all of which end."""
+    return sum([last - first + 1 for first, last in stretches])
+
+
+def company_behind(many, folded):
+    """The least company below which so many are no folds; folded is the rising list of the folds."""
+    company = many - 1
+    for c in folded:
+        if c > company:
+            break
+        company += 1
+    return company + 1
+
+
+def table_by(never, folds):
+    """("table", table) with just these never-comes and folds, or the paper ("less", c)."""
+    need_bounded(never)
+    need_bounded(folds)
+    many = size_of(folds)
+    if many > MOST_FOLDS:
+        raise TooMany(many)
+    folded = [c for first, last in folds for c in range(first, last + 1)]
+    changes = {c + 1: -1 for c in folded}
+    skipped = 0
+    for first, last in never:
+        # Behind a fold the total stays, so no jump falls together with one.
+        changes[company_behind(first - skipped, folded)] = last - first + 1
+        skipped += last - first + 1
+    table = added_up(changes)
+    for c, level in table:
+        if level < 0:
+            return ("less", c)
+    return ("table", table)
+
+
+def joined(front, back):
+    """The table of two rows, one standing behind the other."""
+    need_rows_table(front)
+    need_rows_table(back)
+    begun = [step[0] for step in back]
+    reached = [least_to_total(back, step[0]) for step in front]
+    out = []
+    for c in sorted(set(begun + reached)):
+        many = level_at(back, c)
+        out.append((c, many + level_at(front, c + many)))
+    return levelled(out)
+
+
+def greater_of(one, other):
+    """The greater of the manies of two rows' tables, at each company."""
+    need_rows_table(one)
+    need_rows_table(other)
+    return levelled([(c, max(level_at(one, c), level_at(other, c))) for c in starts_of(one, other)])
+
+
+def lesser_of(one, other):
+    """The lesser of the manies of two rows' tables, at each company."""
+    need_rows_table(one)
+    need_rows_table(other)
+    return levelled([(c, min(level_at(one, c), level_at(other, c))) for c in starts_of(one, other)])

@@ -1,0 +1,104 @@
+"""The form of the package: the interface as it is written, and what the code may look like."""
+
+import ast
+import importlib
+import inspect
+import pathlib
+import unittest
+
+PACKAGE = pathlib.Path(__file__).resolve().parent.parent / "boastrow"
+
+INTERFACE = {
+    "rows": [
+        "is_number(thing)", "is_saying(thing)", "is_row(thing)", "words(row, company)", "heard(row, company)",
+        "total(row, company)", "comes(row, company, place)", "put_in(row, place, saying)", "taken(row, place)",
+        "changed(row, place, saying)", "parted(row, place)",
+    ],
+    "walks": [
+        "swayed(row, company, place)", "true_between(row, company, first, *, last=None)",
+        "hindmost(row, company, many)",
+    ],
+    "tables": [
+        "is_table(thing)", "is_rows(thing)", "table_of(row)", "total_by(table, company)", "never_comes(table)",
+        "folds(table)", "table_by(never, folds)", "joined(front, back)", "greater_of(one, other)",
+        "lesser_of(one, other)",
+    ],
+}
+CLASSES = {}
+BARRED = (ast.GeneratorExp, ast.Yield, ast.YieldFrom, ast.Global, ast.AsyncFunctionDef, ast.Await, ast.Set, ast.Div)
+
+
+def files():
+    """The files of the package, rising."""
+    return sorted(PACKAGE.glob("*.py"))
+
+
+def signature(name, thing):
+    """A function's name and arguments as the interface writes them."""
+    return name + str(inspect.signature(thing))
+
+
+class Interface(unittest.TestCase):
+    def test_functions_stand_in_their_files(self):
+        for module, wanted in INTERFACE.items():
+            found = importlib.import_module("boastrow." + module)
+            for line in wanted:
+                name = line.split("(")[0]
+                thing = getattr(found, name)
+                self.assertEqual(signature(name, thing), line)
+                self.assertEqual(thing.__module__, "boastrow." + module)
+
+    def test_methods_stand_in_their_classes(self):
+        for (module, name), wanted in CLASSES.items():
+            thing = getattr(importlib.import_module("boastrow." + module), name)
+            self.assertEqual(thing.__module__, "boastrow." + module)
+            for line in wanted:
+                method = line.split("(")[0]
+                self.assertEqual(signature(method, vars(thing)[method]), line)
+
+
+class Form(unittest.TestCase):
+    def test_the_folder_holds_files_alone(self):
+        held = [path for path in PACKAGE.iterdir() if path.name != "__pycache__"]
+        self.assertEqual(sorted(held), files())
+
+    def test_sizes_and_signs(self):
+        for path in files():
+            text = path.read_text(encoding="utf-8")
+            lines = text.split("\n")
+            self.assertLess(len(lines), 400, path)
+            self.assertLessEqual(max(map(len, lines)), 120, path)
+            self.assertTrue(all(sign == "\n" or " " <= sign <= "~" for sign in text), path)
+
+    def test_functions_are_small(self):
+        for path in files():
+            for node in ast.walk(ast.parse(path.read_text())):
+                if isinstance(node, ast.FunctionDef):
+                    self.assertLessEqual(node.end_lineno - node.lineno, 39, (path, node.name))
+                    self.assertEqual(node.decorator_list, [])
+
+    def test_nothing_barred(self):
+        for path in files():
+            for node in ast.walk(ast.parse(path.read_text())):
+                self.assertNotIsInstance(node, BARRED, path)
+                self.assertFalse(isinstance(node, ast.Attribute) and node.attr == "sort", path)
+                self.assertFalse(isinstance(node, ast.Constant) and isinstance(node.value, float), path)
+
+    def test_imports_come_from_the_package_by_full_names(self):
+        for path in files():
+            for node in ast.walk(ast.parse(path.read_text())):
+                self.assertNotIsInstance(node, ast.Import, path)
+                if isinstance(node, ast.ImportFrom):
+                    self.assertEqual((node.module.split(".")[0], node.level), ("boastrow", 0), path)
+                    defined = ast.parse((PACKAGE / (node.module.split(".")[1] + ".py")).read_text()).body
+                    names = [one.name for one in defined if isinstance(one, (ast.FunctionDef, ast.ClassDef))]
+                    for one in node.names:
+                        self.assertIn(one.name, names, path)
+
+    def test_no_two_bindings_of_a_name(self):
+        for path in files():
+            names = []
+            for node in ast.parse(path.read_text()).body:
+                names += [one.name for one in node.names] if isinstance(node, ast.ImportFrom) else []
+                names += [node.name] if isinstance(node, (ast.FunctionDef, ast.ClassDef)) else []
+            self.assertEqual(len(names), len(set(names)), path)
