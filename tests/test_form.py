@@ -23,8 +23,23 @@ INTERFACE = {
         "folds(table)", "table_by(never, folds)", "joined(front, back)", "greater_of(one, other)",
         "lesser_of(one, other)",
     ],
+    "apart": ["alike(one, other)", "least_apart(one, other)", "least_less(one, other)"],
+    "judge_apart": ["apart_holds(one, other, paper)"],
+    "shelves": [
+        "is_shelf(thing)", "book(shelf, m)", "books_to(shelf, number)", "shelf_of(row)", "shelf_by(table)",
+        "table_of_shelf(shelf)", "led(shelf, deeds)", "deeds_between(one, other)", "Shelf(*, shelf=None)",
+    ],
+    "wishes": [
+        "wishes(row, many)", "companies(row, total)", "companies_between(row, least, most)",
+        "least_from(row, place, many)",
+    ],
 }
-CLASSES = {}
+CLASSES = {
+    ("shelves", "Shelf"): [
+        "double(self, m)", "strike(self, m)", "enter(self, saying)", "undo(self)", "told(self)", "number_of(self, m)",
+        "many_to(self, number)", "__eq__(self, other)", "__len__(self)",
+    ],
+}
 BARRED = (ast.GeneratorExp, ast.Yield, ast.YieldFrom, ast.Global, ast.AsyncFunctionDef, ast.Await, ast.Set, ast.Div)
 
 

@@ -2,15 +2,23 @@
 
 import unittest
 
+from boastrow.apart import alike, least_apart, least_less
+from boastrow.judge_apart import apart_holds
 from boastrow.rows import changed, comes, heard, parted, put_in, taken, total, words
+from boastrow.shelves import (
+    Shelf, book, books_to, deeds_between, led, shelf_by, shelf_of, table_of_shelf,
+)
 from boastrow.tables import folds, greater_of, joined, lesser_of, never_comes, table_by, table_of, total_by
 from boastrow.walks import hindmost, swayed, true_between
+from boastrow.wishes import companies, companies_between, least_from, wishes
 from tests.helper import check_own
 
 ROW = [(1, 2), (0, 0), (3, None), (2, 5)]
 OTHER = [(0, 2), (0, 0), (2, None), (0, 3), (1, 1)]
 TABLE = [(0, 1), (3, 9), (4, 8)]
 LESS = [(0, 0), (2, 1), (6, 0)]
+SHELF = [(0, 1), (2, 3), (4, 0)]
+BOOKS = [(0, 4), (3, 2), (4, 0)]
 
 
 class Kept(unittest.TestCase):
@@ -53,3 +61,40 @@ class Kept(unittest.TestCase):
             self.assertIsNot(told, table)
             told.append("spoiled")
             self.assertEqual(table, TABLE)
+
+    def test_apart(self):
+        for call in (alike, least_apart, least_less):
+            check_own(self, call, [LESS, TABLE], [TABLE, TABLE])
+        check_own(self, apart_holds, [LESS, TABLE, ("apart", 1)], [TABLE, TABLE, ("apart", 1)])
+
+    def test_shelves(self):
+        check_own(self, book, [SHELF, 3], [BOOKS, 3])
+        check_own(self, books_to, [SHELF, 3], [BOOKS, 3])
+        check_own(self, shelf_of, [ROW], [OTHER])
+        check_own(self, shelf_by, [TABLE], [LESS])
+        check_own(self, table_of_shelf, [SHELF], [BOOKS])
+
+    def test_deeds(self):
+        check_own(self, led, [SHELF, [("double", 0)]], [BOOKS, [("strike", 1), ("strike", 1)]])
+        check_own(self, led, [SHELF, []], [BOOKS, []])
+        check_own(self, deeds_between, [SHELF, BOOKS], [BOOKS, SHELF])
+        check_own(self, deeds_between, [[], SHELF], [[(4, 0)], [(0, 9)]])
+
+    def test_the_shelf_told_by_a_shelf(self):
+        def told(shelf):
+            made = Shelf(shelf=shelf)
+            made.enter((3, 4))
+            return made.told()
+
+        check_own(self, told, [SHELF], [BOOKS])
+        made = Shelf(shelf=SHELF)
+        first = made.told()
+        first.append("spoiled")
+        self.assertEqual(made.told(), SHELF)
+        self.assertEqual(made.told(), made.told())
+
+    def test_wishes(self):
+        check_own(self, wishes, [ROW, 5], [OTHER, 5])
+        check_own(self, companies, [ROW, 5], [OTHER, 5])
+        check_own(self, companies_between, [ROW, 5, 6], [OTHER, 5, 6])
+        check_own(self, least_from, [ROW, 1, 6], [OTHER, 1, 6])
