@@ -2,7 +2,7 @@
 
 from boastrow.errors import NoBook, NoDeed, NoneYet, NoShelf, NoTable, TooMany
 from boastrow.levels import added_up, stretch_to
-from boastrow.rows import is_number, need_number, need_row, need_saying
+from boastrow.rows import is_number, need_number, need_saying
 from boastrow.tables import need_rows_table, table_of
 
 MOST_DEEDS = 300
@@ -47,9 +47,7 @@ def need_book(thing, least):
 
 
 def find_book(shelf, m):
-    """The number of book m: the least one up to which there are so many books."""
-    if m == 0:
-        return 0
+    """The number of book m: the least one up to which there are so many books, so 0 of book 0."""
     more = 0
     for number, copies in shelf:
         # Ahead of this number there stand as many books as numbers from 1 on, and those more.
@@ -89,7 +87,6 @@ def books_to(shelf, number):
 
 def shelf_of(row):
     """The shelf of a row: up to each company as many books as is the total by it."""
-    need_row(row)
     return shelf_by(table_of(row))
 
 
@@ -151,11 +148,12 @@ def deeds_between(one, other):
     deeds = []
     # From the right on, so that what is done leaves all books further left where they were.
     for number, had, wanted in reversed(gaps):
+        last = count_to(one, number)
         if wanted > had:
-            deeds += [("double", 0 if number == 0 else count_to(one, number))] * (wanted - had)
+            deeds += [("double", last)] * (wanted - had)
         else:
-            first = 1 if number == 0 else count_to(one, number - 1) + 1
-            deeds += [("strike", first)] * (had - wanted)
+            # Book by book the first one of the number goes, and the next one stands in its place.
+            deeds += [("strike", last - had + 1)] * (had - wanted)
     return ("deeds", deeds)
 
 

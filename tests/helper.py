@@ -6,7 +6,18 @@ import random
 BIG = 10 ** 29 + 12345
 GREATEST = 10 ** 30 - 1
 
-WRONG_NUMBERS = [-1, -BIG, True, False, None, "1", "", b"1", 1.0, 1j, (1,), [1], {}, object()]
+
+class Like:
+    """A thing that says of itself that it is equal to anything."""
+
+    def __eq__(self, other):
+        return True
+
+    def __ne__(self, other):
+        return False
+
+
+WRONG_NUMBERS = [-1, -BIG, True, False, None, "1", "", b"1", 1.0, 1j, (1,), [1], {}, object(), Like()]
 WRONG_SAYINGS = [
     None, 3, True, "", "12", (), (1,), (1, 2, 3), [1, 2], (2, 1), (1, 0), (-1, 2), (-2, -1), (None, 1), (None, None),
     (True, 2), (0, True), (False, None), (0, False), ("1", "2"), (1, "2"), (0, 1.0), (1.0, None), {1: 2}, ((1, 2),),

@@ -7,13 +7,13 @@ from boastrow.errors import NoTable
 from boastrow.judge_apart import apart_holds
 from boastrow.tables import folds, never_comes, table_of
 from tests.helper import (
-    BIG, FALLING, GREATEST, WRONG_NUMBERS, WRONG_TABLES, check_refusals, long_row, long_table, many_in, near,
+    BIG, FALLING, GREATEST, WRONG_NUMBERS, WRONG_TABLES, Like, check_refusals, long_row, long_table, many_in, near,
     some_rows, some_tables,
 )
 
 WRONG_PAPERS = [
     None, 0, True, "", "apart", {}, set(), [], (), ("apart",), ("apart", 0, 0), ["apart", 0], ("less", 0), ("Apart", 0),
-    (0, "apart"), (0, 0), (None, 0), (("apart",), 0), ({}, 0), ([], 0), (b"apart", 0), (object(), object()),
+    (0, "apart"), (0, 0), (None, 0), (("apart",), 0), ({}, 0), ([], 0), (b"apart", 0), (Like(), 0), Like(),
 ] + [("apart", wrong) for wrong in WRONG_NUMBERS]
 
 

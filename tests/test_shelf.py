@@ -7,7 +7,8 @@ from boastrow.errors import NoBook, NoneYet, NoNumber, NoSaying, NoShelf
 from boastrow.rows import words
 from boastrow.shelves import Shelf, book, books_to, is_shelf, led, shelf_of
 from tests.helper import (
-    BIG, GREATEST, WRONG_NUMBERS, WRONG_SAYINGS, WRONG_SHELVES, long_row, some_rows, some_saying, walked,
+    BIG, GREATEST, WRONG_NUMBERS, WRONG_SAYINGS, WRONG_SHELVES, Like, long_row, some_rows, some_saying,
+    walked,
 )
 from tests.test_shelves import laid_out, some_shelves
 
@@ -204,10 +205,6 @@ class Equal(unittest.TestCase):
         self.assertTrue(one == other)
 
     def test_to_nothing_else(self):
-        class Like:
-            def __eq__(self, other):
-                return True
-
         shelf = Shelf(shelf=[(2, 2)])
         for other in ([(2, 2)], [], ((2, 2),), None, 0, "", object(), Like(), True):
             self.assertFalse(shelf == other)

@@ -10,8 +10,8 @@ from boastrow.shelves import (
 )
 from boastrow.tables import table_of, total_by
 from tests.helper import (
-    BIG, FALLING, GREATEST, WRONG_NUMBERS, WRONG_ROWS, WRONG_SHELVES, WRONG_TABLES, check_refusals, long_row,
-    long_table, near, numbers_of, some_rows, some_tables, walked_total,
+    BIG, FALLING, GREATEST, WRONG_NUMBERS, WRONG_ROWS, WRONG_SHELVES, WRONG_TABLES, Like, check_refusals,
+    long_row, long_table, near, numbers_of, some_rows, some_tables, walked_total,
 )
 
 GOOD = [[], [(0, 1)], [(1, 0)], [(0, 3), (1, 2), (2, 0), (7, 5)], [(5, 9)], [(BIG, 0)], [(0, BIG), (GREATEST, BIG)]]
@@ -20,7 +20,7 @@ WRONG_DEEDS = [
     [()], [("double",)], [("double", 1, 1)], [("strike", 0)], [("twice", 1)], [("Double", 1)], [(1, "double")],
     [("double", -1)], [("strike", -1)], [("double", True)], [("strike", True)], [("double", None)], [("double", "1")],
     [("double", 1.0)], [(b"double", 1)], [(None, 1)], [([], 1)], [("double", 1), ("strike", 0)],
-    [("double", 1), ["strike", 1]], [("enter", (0, 1))], [("undo",)], object(),
+    [("double", 1), ["strike", 1]], [("enter", (0, 1))], [("undo",)], [(Like(), 1)], object(),
 ]
 
 
