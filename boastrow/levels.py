@@ -75,19 +75,17 @@ def stretch_to(first, beyond):
     return (first, beyond - 1)
 
 
-def handed_on(saying, wish):
-    """The wish that whoever has this saying hands on to the one behind."""
-    least, most = saying
-    if least < wish and (most is None or wish <= most + 1):
-        return wish - 1
-    return wish
-
-
 def wish_behind(people, wish):
     """What comes of the wish behind all the people: the least company that does."""
-    for saying in people:
-        wish = handed_on(saying, wish)
+    for least, most in people:
+        if least < wish and (most is None or wish <= most + 1):
+            wish -= 1
     return wish
+
+
+def handed_on(saying, wish):
+    """The wish that whoever has this saying hands on to the one behind."""
+    return wish_behind([saying], wish)
 
 
 def companies_within(people, saying):
@@ -97,3 +95,18 @@ def companies_within(people, saying):
     if most is None:
         return stretch_to(first, None)
     return stretch_to(first, wish_behind(people, most + 1))
+
+
+def said_of_company(row):
+    """Of each person, front first, the stretch of the companies by which it speaks truly, or None."""
+    return [companies_within(row[place + 1:], row[place]) for place in range(len(row))]
+
+
+def changes_by(stretches):
+    """A dict: at each c how many more of the stretches begin there than end at the number ahead of it."""
+    changes = {}
+    for first, last in stretches:
+        changes[first] = changes.get(first, 0) + 1
+        if last is not None:
+            changes[last + 1] = changes.get(last + 1, 0) - 1
+    return changes

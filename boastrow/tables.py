@@ -1,7 +1,9 @@
 """Tables: how many of a row speak truly, of each company; what never comes, what folds; tables put together."""
 
 from boastrow.errors import NoStretches, NoTable, TooMany
-from boastrow.levels import added_up, companies_within, least_to_total, level_at, levelled, starts_of
+from boastrow.levels import (
+    added_up, changes_by, least_to_total, level_at, levelled, said_of_company, starts_of,
+)
 from boastrow.rows import is_number, is_saying, need_number, need_row
 
 MOST_FOLDS = 300
@@ -41,15 +43,8 @@ def need_rows_table(thing):
 def table_of(row):
     """The row's table."""
     need_row(row)
-    changes = {}
-    for place in range(len(row)):
-        stretch = companies_within(row[place + 1:], row[place])
-        if stretch is not None:
-            first, last = stretch
-            changes[first] = changes.get(first, 0) + 1
-            if last is not None:
-                changes[last + 1] = changes.get(last + 1, 0) - 1
-    return added_up(changes)
+    said = said_of_company(row)
+    return added_up(changes_by([stretch for stretch in said if stretch is not None]))
 
 
 def total_by(table, company):

@@ -1,6 +1,7 @@
 """What several tests share: rows walked one by one, samples, wrong things, and how refusals are looked at."""
 
 import copy
+import itertools
 import random
 
 BIG = 10 ** 29 + 12345
@@ -41,6 +42,21 @@ WRONG_SHELVES = [
     [(0, 1), (0, 2)], [(-1, 2)], [(2, -1)], [(True, 2)], [(2, False)], [(2, True)], [(False, 1)], [("2", 0)], [(2, "0")],
     [(2, 0.0)], [(2.0, 0)], [(2, None)], [(None, 2)], [(2, 0), [3, 0]], [(2, 0), 3], object(),
 ]
+
+# What has a None, and else stretches alone, is a lot in its own order, but none where a lot of stretches is due.
+NONES = [[None], (None,), [(0, 1), None], (None, (0, 1)), [(0, 1)] * 199 + [None]]
+WRONG_ORDERED = [thing for thing in WRONG_ROWS if thing not in NONES] + [[None, 3], (None, [0, 1])]
+WRONG_LOTS = WRONG_ORDERED + NONES
+
+
+def wrong_papers(word):
+    """What is no tuple of just this word and a number."""
+    other = "ends" if word != "ends" else "bare"
+    return [
+        None, 0, True, "", word, {}, set(), [], (), (word,), (word, 0, 0), [word, 0], (other, 0), (word.title(), 0),
+        (word + " ", 0), (0, word), (0, 0), (None, 0), ((word,), 0), ({}, 0), ([], 0), (word.encode(), 0), (Like(), 0),
+        Like(), object(),
+    ] + [(word, wrong) for wrong in WRONG_NUMBERS]
 
 
 def wrong_places(places):
@@ -89,6 +105,56 @@ def some_rows(seed, count, people, top):
     """So many rows of up to so many people, each saying of numbers up to top: the same ones for the same seed."""
     chance = random.Random(seed)
     return [[some_saying(chance, top) for _ in range(chance.randint(0, people))] for _ in range(count)]
+
+
+def none_behind(things):
+    """The key of sayings, stretches, or lists of such, as told things are compared: None behind each number."""
+    if things is None:
+        return (1, 0)
+    return (0, things) if isinstance(things, int) else [none_behind(one) for one in things]
+
+
+def sayings_to(top):
+    """All sayings of numbers up to top, in order, None behind each number."""
+    return [(least, most) for least in range(top + 1) for most in list(range(least, top + 1)) + [None]]
+
+
+def rows_to(people, top):
+    """All rows of just so many people and of numbers up to top, in order."""
+    return [list(row) for row in itertools.product(sayings_to(top), repeat=people)]
+
+
+def holds(stretch, c):
+    """Whether the stretch, perhaps None, holds the number."""
+    return stretch is not None and stretch[0] <= c and (stretch[1] is None or c <= stretch[1])
+
+
+def in_stretches(stretches, c):
+    """Whether one of the stretches holds the number."""
+    return any(holds(stretch, c) for stretch in stretches)
+
+
+def stretches_where(truths):
+    """The numbers at which truth stands in a list, as stretches; what stands last stands for ever."""
+    out = []
+    for c, truth in enumerate(truths):
+        if truth and c and truths[c - 1]:
+            out[-1] = (out[-1][0], c)
+        elif truth:
+            out.append((c, c))
+    if truths[-1]:
+        out[-1] = (out[-1][0], None)
+    return out
+
+
+def check_stretches(test, stretches):
+    """They rise, and none touches the next one."""
+    test.assertIsInstance(stretches, list)
+    for one, other in zip(stretches, stretches[1:]):
+        test.assertGreater(other[0], one[1] + 1)
+    for stretch in stretches:
+        test.assertIsInstance(stretch, tuple)
+        test.assertTrue(0 <= stretch[0] and (stretch[1] is None or stretch[0] <= stretch[1]))
 
 
 def long_row(seed, top, people=200):

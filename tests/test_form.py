@@ -33,6 +33,14 @@ INTERFACE = {
         "wishes(row, many)", "companies(row, total)", "companies_between(row, least, most)",
         "least_from(row, place, many)",
     ],
+    "stretches": ["says_of(row, place)", "lot_of(row)", "changes(row)", "when(row, words)"],
+    "lots": [
+        "is_lot(thing)", "lot_table(lot)", "row_for(lot)", "row_in_order(lot)", "nested(lot)", "crossed(lot)",
+        "bars(lot)", "more_for(lot)",
+    ],
+    "judge_lots": ["lot_shows(lot, paper)"],
+    "wished": ["row_of(table)", "how_few(table)", "peeled(table)", "may_lead(table, thing)"],
+    "fewest": ["fewest(row)", "within(row, people)", "may_go(row)"],
 }
 CLASSES = {
     ("shelves", "Shelf"): [

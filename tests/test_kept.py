@@ -3,13 +3,18 @@
 import unittest
 
 from boastrow.apart import alike, least_apart, least_less
+from boastrow.fewest import fewest, may_go, within
 from boastrow.judge_apart import apart_holds
+from boastrow.judge_lots import lot_shows
+from boastrow.lots import bars, crossed, lot_table, more_for, nested, row_for, row_in_order
 from boastrow.rows import changed, comes, heard, parted, put_in, taken, total, words
 from boastrow.shelves import (
     Shelf, book, books_to, deeds_between, led, shelf_by, shelf_of, table_of_shelf,
 )
+from boastrow.stretches import changes, lot_of, says_of, when
 from boastrow.tables import folds, greater_of, joined, lesser_of, never_comes, table_by, table_of, total_by
 from boastrow.walks import hindmost, swayed, true_between
+from boastrow.wished import how_few, may_lead, peeled, row_of
 from boastrow.wishes import companies, companies_between, least_from, wishes
 from tests.helper import check_own
 
@@ -17,6 +22,8 @@ ROW = [(1, 2), (0, 0), (3, None), (2, 5)]
 OTHER = [(0, 2), (0, 0), (2, None), (0, 3), (1, 1)]
 TABLE = [(0, 1), (3, 9), (4, 8)]
 LESS = [(0, 0), (2, 1), (6, 0)]
+LOT = [(0, 3), (4, 4), (1, None)]
+ENDING = [(0, 4), (2, 4), (3, 4)]
 SHELF = [(0, 1), (2, 3), (4, 0)]
 BOOKS = [(0, 4), (3, 2), (4, 0)]
 
@@ -98,3 +105,34 @@ class Kept(unittest.TestCase):
         check_own(self, companies, [ROW, 5], [OTHER, 5])
         check_own(self, companies_between, [ROW, 5, 6], [OTHER, 5, 6])
         check_own(self, least_from, [ROW, 1, 6], [OTHER, 1, 6])
+
+    def test_stretches(self):
+        check_own(self, says_of, [ROW, 0], [OTHER, 0])
+        check_own(self, lot_of, [ROW], [OTHER])
+        check_own(self, lot_of, [[]], [OTHER])
+        check_own(self, changes, [ROW], [OTHER])
+        check_own(self, changes, [[]], [OTHER])
+        check_own(self, when, [ROW, [None, None, False, True]], [OTHER, [None, None, None, None, False]])
+        check_own(self, when, [[], []], [OTHER, [None, None, None, None, True]])
+
+    def test_lots(self):
+        for call in (lot_table, row_for, row_in_order, nested, crossed):
+            check_own(self, call, [LOT], [ENDING])
+        for call in (bars, more_for):
+            check_own(self, call, [ENDING], [LOT])
+        check_own(self, row_for, [[]], [LOT])
+        check_own(self, nested, [[]], [LOT])
+        check_own(self, lot_shows, [ENDING, ("ends", 4)], [LOT, ("ends", 4)])
+
+    def test_wished(self):
+        for call in (row_of, how_few, peeled):
+            check_own(self, call, [TABLE], [LESS])
+            check_own(self, call, [LESS], [[(0, 0)]])
+        check_own(self, may_lead, [LESS, (2, 5)], [TABLE, (2, 5)])
+
+    def test_fewest(self):
+        for call in (fewest, may_go):
+            check_own(self, call, [ROW], [OTHER])
+        check_own(self, fewest, [[(0, 1), (5, None)]], [ROW])
+        check_own(self, within, [ROW, 2], [[(4, None)] * 3, 2])
+        check_own(self, within, [ROW, 9], [OTHER, 9])
