@@ -1,6 +1,6 @@
 """Two tables: whether they are alike, and from which company on they are not."""
 
-from boastrow.levels import level_at, starts_of
+from boastrow.levels import first_apart, first_less
 from boastrow.tables import need_rows_table
 
 
@@ -15,17 +15,11 @@ def least_apart(one, other):
     """The least company at which the manies are unlike, or None."""
     need_rows_table(one)
     need_rows_table(other)
-    for c in starts_of(one, other):
-        if level_at(one, c) != level_at(other, c):
-            return c
-    return None
+    return first_apart(one, other)
 
 
 def least_less(one, other):
     """The least company at which the first one's many is less than the second one's, or None."""
     need_rows_table(one)
     need_rows_table(other)
-    for c in starts_of(one, other):
-        if level_at(one, c) < level_at(other, c):
-            return c
-    return None
+    return first_less(one, other)

@@ -22,9 +22,42 @@ def level_at(steps, c):
     return steps[last_step_to(steps, c)][1]
 
 
-def starts_of(one, other):
-    """Each c at which one or the other begins a step, rising."""
-    return sorted(set([step[0] for step in one + other]))
+def levels_along(steps, points):
+    """The many that holds at each of the points, which never fall."""
+    out = []
+    at = 0
+    for c in points:
+        while at + 1 < len(steps) and steps[at + 1][0] <= c:
+            at += 1
+        out.append(steps[at][1])
+    return out
+
+
+def first_apart(one, other):
+    """The least c at which the manies of the steps, all of them unlike the ones ahead, are apart, or None."""
+    for (c, many), (d, more) in zip(one, other):
+        if c != d:
+            return min(c, d)
+        if many != more:
+            return c
+    if len(one) == len(other):
+        return None
+    # Whichever goes on has a step where the other one is level.
+    return max(one, other, key=len)[min(len(one), len(other))][0]
+
+
+def side_by_side(one, other):
+    """The list of tuples (c, many, many): at each c at which one or the other begins a step, both manies."""
+    points = sorted(set([c for c, _ in one + other]))
+    return list(zip(points, levels_along(one, points), levels_along(other, points)))
+
+
+def first_less(one, other):
+    """The least c at which the many of the one is less than that of the other, or None."""
+    for c, many, more in side_by_side(one, other):
+        if many < more:
+            return c
+    return None
 
 
 def levelled(steps):
@@ -47,8 +80,8 @@ def added_up(changes):
     return levelled(out)
 
 
-def least_to_total(table, total):
-    """The least c by which c and many together are at least the total; the table is a row's."""
+def steps_below(table, total):
+    """How many of the steps of a row's table begin with c and many together below the total."""
     low = 0
     high = len(table)
     while low < high:
@@ -57,13 +90,34 @@ def least_to_total(table, total):
             low = middle + 1
         else:
             high = middle
-    if low == 0:
+    return low
+
+
+def reached(table, below, total):
+    """The least c by which c and many together are at least the total, where so many steps begin below it."""
+    if below == 0:
         return 0
-    # The step ahead begins below the total: it comes to it by itself, or the next one does at its start.
-    c = total - table[low - 1][1]
-    if low < len(table):
-        c = min(c, table[low][0])
+    # The last of these steps comes to it by itself, or the next one does at its start.
+    c = total - table[below - 1][1]
+    if below < len(table):
+        c = min(c, table[below][0])
     return c
+
+
+def least_to_total(table, total):
+    """The least c by which c and many together are at least the total; the table is a row's."""
+    return reached(table, steps_below(table, total), total)
+
+
+def least_to_totals(table, totals):
+    """The same of each of the totals, which never fall."""
+    out = []
+    below = 0
+    for total in totals:
+        while below < len(table) and table[below][0] + table[below][1] < total:
+            below += 1
+        out.append(reached(table, below, total))
+    return out
 
 
 def stretch_to(first, beyond):

@@ -2,7 +2,7 @@
 
 from boastrow.errors import NoStretches, NoTable, TooMany
 from boastrow.levels import (
-    added_up, changes_by, least_to_total, level_at, levelled, said_of_company, starts_of,
+    added_up, changes_by, least_to_totals, level_at, levelled, levels_along, said_of_company, side_by_side,
 )
 from boastrow.rows import is_number, is_saying, need_number, need_row
 
@@ -139,24 +139,22 @@ def joined(front, back):
     """The table of two rows, one standing behind the other."""
     need_rows_table(front)
     need_rows_table(back)
-    begun = [step[0] for step in back]
-    reached = [least_to_total(back, step[0]) for step in front]
-    out = []
-    for c in sorted(set(begun + reached)):
-        many = level_at(back, c)
-        out.append((c, many + level_at(front, c + many)))
-    return levelled(out)
+    # Nothing changes but where a step of back begins, or back comes to where one of front does.
+    points = sorted(set([c for c, _ in back] + least_to_totals(back, [c for c, _ in front])))
+    manies = levels_along(back, points)
+    ahead = levels_along(front, [c + many for c, many in zip(points, manies)])
+    return levelled([(c, many + more) for c, many, more in zip(points, manies, ahead)])
 
 
 def greater_of(one, other):
     """The greater of the manies of two rows' tables, at each company."""
     need_rows_table(one)
     need_rows_table(other)
-    return levelled([(c, max(level_at(one, c), level_at(other, c))) for c in starts_of(one, other)])
+    return levelled([(c, max(many, more)) for c, many, more in side_by_side(one, other)])
 
 
 def lesser_of(one, other):
     """The lesser of the manies of two rows' tables, at each company."""
     need_rows_table(one)
     need_rows_table(other)
-    return levelled([(c, min(level_at(one, c), level_at(other, c))) for c in starts_of(one, other)])
+    return levelled([(c, min(many, more)) for c, many, more in side_by_side(one, other)])

@@ -41,6 +41,20 @@ INTERFACE = {
     "judge_lots": ["lot_shows(lot, paper)"],
     "wished": ["row_of(table)", "how_few(table)", "peeled(table)", "may_lead(table, thing)"],
     "fewest": ["fewest(row)", "within(row, people)", "may_go(row)"],
+    "judge_fewest": ["falls_holds(table, paper)", "totals_hold(table, people, paper)"],
+    "sets": [
+        "is_sets(thing)", "set_words(sets, company)", "true_at(sets)", "sets_of(row)", "set_total(sets, company)",
+        "set_table(sets)", "fewest_sets(table)", "shown_at_once(table, paper)", "at_once(table)",
+        "sets_apart(one, other)", "sayings_more(sets)",
+    ],
+    "between": [
+        "window(front, back, wished, company)", "table_between(front, back, wished)", "needed(front, back, wished)",
+        "front_first(front, back, wished)",
+    ],
+    "steps": [
+        "step_between(front, back, wished)", "in_front(now, wished)", "step_behind(now, wished)",
+        "left_front(row, many)", "spare_front(row, many)", "spare_behind(row, many)",
+    ],
 }
 CLASSES = {
     ("shelves", "Shelf"): [

@@ -3,14 +3,20 @@
 import unittest
 
 from boastrow.apart import alike, least_apart, least_less
+from boastrow.between import front_first, needed, table_between, window
 from boastrow.fewest import fewest, may_go, within
 from boastrow.judge_apart import apart_holds
+from boastrow.judge_fewest import falls_holds, totals_hold
 from boastrow.judge_lots import lot_shows
 from boastrow.lots import bars, crossed, lot_table, more_for, nested, row_for, row_in_order
 from boastrow.rows import changed, comes, heard, parted, put_in, taken, total, words
+from boastrow.sets import (
+    at_once, fewest_sets, set_table, set_total, set_words, sets_apart, sets_of, sayings_more, shown_at_once, true_at,
+)
 from boastrow.shelves import (
     Shelf, book, books_to, deeds_between, led, shelf_by, shelf_of, table_of_shelf,
 )
+from boastrow.steps import in_front, left_front, spare_behind, spare_front, step_behind, step_between
 from boastrow.stretches import changes, lot_of, says_of, when
 from boastrow.tables import folds, greater_of, joined, lesser_of, never_comes, table_by, table_of, total_by
 from boastrow.walks import hindmost, swayed, true_between
@@ -24,6 +30,11 @@ TABLE = [(0, 1), (3, 9), (4, 8)]
 LESS = [(0, 0), (2, 1), (6, 0)]
 LOT = [(0, 3), (4, 4), (1, None)]
 ENDING = [(0, 4), (2, 4), (3, 4)]
+SETS = [[(0, 1), (3, None)], [], [(2, 2)]]
+OTHERS = [[(0, 0)], [(1, 4), (6, 6)]]
+FRONT = [(0, 0), (2, 2), (3, 1), (4, 0)]
+BACK = [(0, 1), (3, 0)]
+WISHED = [(0, 8), (3, 7), (5, 9)]
 SHELF = [(0, 1), (2, 3), (4, 0)]
 BOOKS = [(0, 4), (3, 2), (4, 0)]
 
@@ -136,3 +147,54 @@ class Kept(unittest.TestCase):
         check_own(self, fewest, [[(0, 1), (5, None)]], [ROW])
         check_own(self, within, [ROW, 2], [[(4, None)] * 3, 2])
         check_own(self, within, [ROW, 9], [OTHER, 9])
+
+    def test_judges_of_the_fewest(self):
+        check_own(self, falls_holds, [[(0, 0), (2, 3), (3, 1)], ("falls", 2)], [TABLE, ("falls", 2)])
+        check_own(self, totals_hold, [TABLE, 0, ("totals", [(0, 0)])], [LESS, 0, ("totals", [(0, 0)])])
+        paper = ("totals", [(0, 0), (4, 5)])
+        totals_hold(TABLE, 1, paper)
+        self.assertEqual(paper, ("totals", [(0, 0), (4, 5)]))
+
+    def test_sets(self):
+        check_own(self, set_words, [SETS, 2], [OTHERS, 2])
+        check_own(self, set_total, [SETS, 2], [OTHERS, 2])
+        for call in (set_table, true_at, sayings_more):
+            check_own(self, call, [SETS], [OTHERS])
+        check_own(self, true_at, [[]], [OTHERS])
+        check_own(self, sets_of, [ROW], [OTHER])
+        check_own(self, sets_of, [[]], [OTHER])
+        check_own(self, fewest_sets, [TABLE], [LESS])
+        check_own(self, fewest_sets, [[(0, 0)]], [LESS])
+        check_own(self, shown_at_once, [TABLE, ("at once", 4)], [LESS, ("at once", 4)])
+        check_own(self, at_once, [TABLE], [LESS])
+        check_own(self, sets_apart, [SETS, OTHERS], [OTHERS, OTHERS])
+
+    def test_each_set_is_a_list_of_its_own(self):
+        held = [(0, 1), (3, 4)]
+        for call, thing in ((true_at, [held, held, []]), (sets_of, [(0, 1)] * 3)):
+            told = call(thing)
+            kept = [list(one) for one in told]
+            told[0].append("spoiled")
+            self.assertEqual((told[1:], call(thing)), (kept[1:], kept))
+        self.assertEqual(held, [(0, 1), (3, 4)])
+        inner = [list(one) for one in SETS]
+        first = set_table(inner)
+        inner[2][:] = [(0, None)]
+        self.assertEqual(set_table(inner), set_table([[(0, 1), (3, None)], [], [(0, None)]]))
+        self.assertNotEqual(set_table(inner), first)
+
+    def test_between(self):
+        check_own(self, window, [FRONT, BACK, WISHED, 3], [TABLE, BACK, WISHED, 3])
+        for call in (table_between, needed):
+            check_own(self, call, [FRONT, BACK, WISHED], [BACK, BACK, [(0, 9), (3, 8)]])
+            check_own(self, call, [[(0, 0)], [(0, 0)], WISHED], [[(0, 0)], [(0, 0)], TABLE])
+        check_own(self, front_first, [BACK, [(0, 0)], BACK], [FRONT, BACK, WISHED])
+
+    def test_steps(self):
+        check_own(self, step_between, [FRONT, BACK, WISHED], [TABLE, BACK, WISHED])
+        check_own(self, step_between, [[(0, 0)], [(0, 0)], [(0, 0)]], [FRONT, BACK, WISHED])
+        check_own(self, in_front, [BACK, WISHED], [BACK, [(0, 2), (3, 1)]])
+        check_own(self, step_behind, [FRONT, [(0, 4)]], [BACK, [(0, 5)]])
+        check_own(self, left_front, [ROW, 2], [OTHER, 2])
+        check_own(self, spare_front, [[(0, 0), (0, 0), (0, None)], 2], [[(0, None)] * 3, 2])
+        check_own(self, spare_behind, [[(0, 9), (0, 0), (0, 0)], 2], [[(0, None)] * 3, 2])
