@@ -2,13 +2,14 @@
 
 from boastrow.errors import NoLot
 from boastrow.levels import added_up, changes_by
+from boastrow.rows import is_row
 from boastrow.standing import Standing
-from boastrow.tables import is_stretch
 
 
 def is_lot(thing):
     """Whether the thing is a list or tuple of stretches."""
-    return isinstance(thing, (list, tuple)) and all([is_stretch(one) for one in thing])
+    # By its form a stretch is just what a saying is.
+    return is_row(thing)
 
 
 def need_lot(thing):
@@ -19,7 +20,7 @@ def need_lot(thing):
 
 def need_ordered(thing):
     """Refuse what is no lot, where None may stand for who never speaks truly."""
-    if not isinstance(thing, (list, tuple)) or not all([one is None or is_stretch(one) for one in thing]):
+    if not isinstance(thing, (list, tuple)) or not is_lot([one for one in thing if one is not None]):
         raise NoLot("a list or tuple of stretches and Nones is wanted")
 
 

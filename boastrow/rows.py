@@ -8,16 +8,25 @@ def is_number(thing):
     return isinstance(thing, int) and not isinstance(thing, bool) and thing >= 0
 
 
-def is_saying(thing):
-    """Whether the thing is a tuple (least, most)."""
-    if not isinstance(thing, tuple) or len(thing) != 2 or not is_number(thing[0]):
-        return False
-    return thing[1] is None or (is_number(thing[1]) and thing[1] >= thing[0])
-
-
 def is_row(thing):
     """Whether the thing is a list or tuple of sayings."""
-    return isinstance(thing, (list, tuple)) and all([is_saying(one) for one in thing])
+    if not isinstance(thing, (list, tuple)):
+        return False
+    # All in one loop, without is_number: a row is looked at whole with each thing that is asked of it.
+    for saying in thing:
+        if not isinstance(saying, tuple) or len(saying) != 2:
+            return False
+        least, most = saying
+        if not isinstance(least, int) or least < 0 or least is True or least is False:
+            return False
+        if most is not None and (not isinstance(most, int) or most < least or most is True or most is False):
+            return False
+    return True
+
+
+def is_saying(thing):
+    """Whether the thing is a tuple (least, most)."""
+    return is_row([thing])
 
 
 def need_number(thing):
@@ -44,19 +53,24 @@ def need_place(thing, places):
         raise NoPlace("a place of the row is wanted")
 
 
-def is_true(saying, many):
-    """Whether who says this and hears so many speaks truly."""
-    least, most = saying
-    return least <= many and (most is None or many <= most)
-
-
 def walk(row, company):
     """What comes from each place on, the row's length at last; the row and the company are looked at already."""
     out = [company]
-    for saying in reversed(row):
-        many = out[-1]
-        out.append(many + 1 if is_true(saying, many) else many)
+    many = company
+    for least, most in reversed(row):
+        if least <= many and (most is None or many <= most):
+            many += 1
+        out.append(many)
     return out[::-1]
+
+
+def what_comes(people, company):
+    """How many of these people and of the company speak truly; both are looked at already."""
+    many = company
+    for least, most in reversed(people):
+        if least <= many and (most is None or many <= most):
+            many += 1
+    return many
 
 
 def words(row, company):
@@ -78,7 +92,7 @@ def total(row, company):
     """How many speak truly, row and company together."""
     need_row(row)
     need_number(company)
-    return walk(row, company)[0]
+    return what_comes(row, company)
 
 
 def comes(row, company, place):
@@ -86,7 +100,7 @@ def comes(row, company, place):
     need_row(row)
     need_number(company)
     need_place(place, len(row) + 1)
-    return walk(row, company)[place]
+    return what_comes(row[place:], company)
 
 
 def put_in(row, place, saying):

@@ -4,28 +4,40 @@ from boastrow.errors import NoStretches, NoTable, TooMany
 from boastrow.levels import (
     added_up, changes_by, least_to_totals, level_at, levelled, levels_along, said_of_company, side_by_side,
 )
-from boastrow.rows import is_number, is_saying, need_number, need_row
+from boastrow.rows import is_row, need_number, need_row
 
 MOST_FOLDS = 300
 
 
-def is_step(thing):
-    """Whether the thing is a tuple of two numbers."""
-    return isinstance(thing, tuple) and len(thing) == 2 and is_number(thing[0]) and is_number(thing[1])
-
-
 def is_table(thing):
     """Whether the thing is a table, a row's or not."""
-    if not isinstance(thing, list) or not thing or not all([is_step(one) for one in thing]):
+    if not isinstance(thing, list) or not thing:
         return False
-    if thing[0][0] != 0:
-        return False
-    return all([one[0] < other[0] and one[1] != other[1] for one, other in zip(thing, thing[1:])])
+    ahead = -1
+    level = None
+    for step in thing:
+        if not isinstance(step, tuple) or len(step) != 2:
+            return False
+        c, many = step
+        if not isinstance(c, int) or c <= ahead or c is True or c is False:
+            return False
+        if not isinstance(many, int) or many < 0 or many == level or many is True or many is False:
+            return False
+        ahead = c
+        level = many
+    return thing[0][0] == 0
 
 
 def is_rows(thing):
     """Whether the thing is some row's table."""
-    return is_table(thing) and all([one[1] <= other[1] + 1 for one, other in zip(thing, thing[1:])])
+    if not is_table(thing):
+        return False
+    ahead = 0
+    for _, many in thing:
+        if many < ahead - 1:
+            return False
+        ahead = many
+    return True
 
 
 def need_table(thing):
@@ -81,16 +93,17 @@ def folds(table):
     return out
 
 
-def is_stretch(thing):
-    """Whether the thing is a tuple (first, last): just what a saying is by its form."""
-    return is_saying(thing)
-
-
 def is_stretches(thing):
     """Whether the thing is a rising list of stretches, none touching the next one."""
-    if not isinstance(thing, list) or not all([is_stretch(one) for one in thing]):
+    # By its form a stretch is just what a saying is.
+    if not isinstance(thing, list) or not is_row(thing):
         return False
-    return all([one[1] is not None and other[0] > one[1] + 1 for one, other in zip(thing, thing[1:])])
+    free = 0
+    for first, last in thing:
+        if free is None or first < free:
+            return False
+        free = None if last is None else last + 2
+    return True
 
 
 def need_bounded(thing):

@@ -1,7 +1,7 @@
 """Walks along a row: whom a person sways, how many speak truly between places, and from where on so many do."""
 
 from boastrow.errors import NoPlace
-from boastrow.rows import need_number, need_place, need_row, walk, words
+from boastrow.rows import need_number, need_place, need_row, walk, what_comes, words
 
 
 def swayed(row, company, place):
@@ -10,13 +10,13 @@ def swayed(row, company, place):
     need_number(company)
     need_place(place, len(row))
     told = words(row, company)
-    behind = walk(row, company)[place + 1]
+    behind = what_comes(row[place + 1:], company)
     # To those ahead all who stand from the place on are but a company, which the other word changes by one.
     other = behind if told[place] else behind + 1
     ahead = row[:place]
     turned = words(ahead, other)
     places = [at for at in range(place) if turned[at] != told[at]]
-    return (places, walk(ahead, other)[0])
+    return (places, what_comes(ahead, other))
 
 
 def true_between(row, company, first, *, last=None):

@@ -240,8 +240,8 @@ def check_own(test, call, args, changed):
 
 
 def spoil(told):
-    """Change every list in what was told."""
-    if isinstance(told, tuple):
+    """Change every list in what was told, the inner ones first."""
+    if isinstance(told, (list, tuple)):
         for one in told:
             spoil(one)
     if isinstance(told, list):

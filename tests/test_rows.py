@@ -111,6 +111,35 @@ class Told(unittest.TestCase):
         self.assertEqual(seen, {0, 1, 2})
 
 
+class ComesOfEachPlace(unittest.TestCase):
+    def test_two_hundred_people_against_the_numbers_from_the_back(self):
+        for row in (long_row(701, GREATEST), long_row(702, 250), [(0, None)] * 200, [(BIG, BIG)] * 200):
+            for company in (0, 3, 120, BIG, GREATEST):
+                told, _, together = walked(row, company)
+                for given in (row, tuple(row)):
+                    found = [comes(given, company, place) for place in range(201)]
+                    self.assertEqual(found, [company + told[place:].count(True) for place in range(201)])
+                self.assertEqual((found[0], found[200]), (together, company))
+
+    def test_a_fault_ahead_of_the_place_or_behind_it(self):
+        for at in (0, 1, 99, 100, 101, 198, 199):
+            for wrong in WRONG_SAYINGS:
+                row = long_row(703, GREATEST)
+                row[at] = wrong
+                for place in (0, 1, 99, 100, 101, 198, 199, 200):
+                    for given in (row, tuple(row)):
+                        with self.assertRaises(NoRow):
+                            comes(given, 7, place)
+
+    def test_a_fault_goes_ahead_of_the_company_and_the_place(self):
+        for at in (0, 100, 199):
+            row = long_row(704, GREATEST)
+            row[at] = (2, 1)
+            for company, place in ((-1, 200), (None, 0), (7, 201), (7, -1), (True, None)):
+                with self.assertRaises(NoRow):
+                    comes(row, company, place)
+
+
 class Anew(unittest.TestCase):
     def test_put_in(self):
         for row in some_rows(79, 20, 6, 9):
