@@ -66,9 +66,9 @@ def bounds(front, back, wished):
 
     It holds up to the next total that is told. There is no paper that nobody can step in.
     """
-    # Where front's totals skip or come twice, they do so at the starts of its steps alone.
-    totals = sorted(set([c + many for c, many in front] + [c + many + 1 for c, many in front]))
-    points = sorted(set([c for c, _ in back + wished] + least_to_totals(wished, totals)))
+    # Besides at steps of these two they change only where wished leaves a total behind that front has twice or more.
+    turns = least_to_totals(wished, [c + many + 1 for c, many in front])
+    points = sorted(set([c for c, _ in back + wished] + turns))
     numbers = [c + many for c, many in zip(points, levels_along(back, points))]
     wants = [c + many for c, many in zip(points, levels_along(wished, points))]
     leasts = least_to_totals(front, wants)

@@ -49,16 +49,13 @@ def too_many_ends(stretches):
 
 
 def stood(lot):
-    """(row, place): the first row of those who can stand in this order, and the greatest place of who can't, or None.
-
-    The row ends in front where somebody can't stand.
-    """
+    """(row, None): the first row with just this lot; or (None, place): the greatest place of who can't say so."""
     standing = Standing()
     row = []
     for place in range(len(lot) - 1, -1, -1):
         saying = standing.saying_for(lot[place])
         if saying is None:
-            return (row[::-1], place)
+            return (None, place)
         row.append(saying)
         standing.put(lot[place])
     return (row[::-1], None)

@@ -25,29 +25,22 @@ class Standing:
         self.turns = {}
 
     def sum_at(self, c):
-        """How many speak truly by the company c, those who stand and the company together."""
+        """How many speak truly by the company c, those who stand and the company together; -1 by -1."""
         return c + many_to(self.begins, c) - many_to(self.beyonds, c)
 
     def grows_at(self, c):
-        """Whether by the company c there are more than by the one ahead."""
+        """Whether by the company c there are more than by the one ahead; by 0 there always are."""
         return self.turns.get(c, 0) >= 0
-
-    def skipped(self):
-        """The least total that never comes, or None."""
-        begun = min([c for c in self.turns if self.turns[c] > 0], default=None)
-        if begun is None:
-            return None
-        return 0 if begun == 0 else self.sum_at(begun - 1) + 1
 
     def saying_for(self, stretch):
         """The least saying that says this of the company (None: never true) in front of those who stand, or None."""
         if stretch is None:
-            total = self.skipped()
-            return None if total is None else (total, total)
+            # The first of all to begin skips a total, and ahead of that each total is its company.
+            return (self.begins[0], self.begins[0]) if self.begins else None
         first, last = stretch
-        if first > 0 and not self.grows_at(first):
+        if not self.grows_at(first):
             return None
-        least = 0 if first == 0 else self.sum_at(first - 1) + 1
+        least = self.sum_at(first - 1) + 1
         if last is None:
             return (least, None)
         return (least, self.sum_at(last)) if self.grows_at(last + 1) else None
