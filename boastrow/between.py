@@ -1,12 +1,9 @@
 """Stepping in between two rows: which numbers those who do must make of which, and how few they are."""
 
-from boastrow.errors import TooMany
 from boastrow.levels import added_up, first_less, least_to_total, least_to_totals, level_at, levels_along
 from boastrow.rows import need_number
 from boastrow.tables import folds, joined, need_rows_table, need_table, never_comes
-from boastrow.wished import least_fall
-
-MOST_PEOPLE = 300
+from boastrow.wished import least_fall, need_few
 
 
 def need_three(front, back, wished):
@@ -99,9 +96,7 @@ def people_moved(moved):
 
 def table_moved(moved):
     """The table of the moves."""
-    many = people_moved(moved)
-    if many > MOST_PEOPLE:
-        raise TooMany(many)
+    need_few(people_moved(moved))
     changes = {}
     for number, more in moved:
         if more > 0:

@@ -5,7 +5,7 @@ Steps are a list of tuples (c, many), c rising, the first 0: many holds from c t
 
 
 def last_step_to(steps, c):
-    """The index of the last of the steps that begins at c or ahead of it."""
+    """The index of the last of the steps, or of stretches, that begins at c or ahead of it; 0 where none does."""
     low = 0
     high = len(steps)
     while high - low > 1:

@@ -1,14 +1,12 @@
 """Rows of sets: each says that how many speak truly of all who stand behind is a number of its set."""
 
-from boastrow.errors import NoSets, TooMany
+from boastrow.errors import NoSets
 from boastrow.growth import Growth
-from boastrow.levels import first_apart, level_at
+from boastrow.levels import first_apart, last_step_to, level_at
 from boastrow.papers import is_paper
 from boastrow.rows import need_number, need_row
 from boastrow.tables import is_stretches, need_rows_table, need_table
-from boastrow.wished import least_fall, people_needed
-
-MOST_PEOPLE = 300
+from boastrow.wished import least_fall, need_few, people_needed
 
 
 def is_sets(thing):
@@ -24,18 +22,10 @@ def need_sets(thing):
 
 def holds(stretches, number):
     """Whether one of the stretches holds the number."""
-    low = 0
-    high = len(stretches)
-    while low < high:
-        middle = (low + high) // 2
-        if stretches[middle][0] <= number:
-            low = middle + 1
-        else:
-            high = middle
-    if low == 0:
+    if not stretches:
         return False
-    last = stretches[low - 1][1]
-    return last is None or number <= last
+    first, last = stretches[last_step_to(stretches, number)]
+    return first <= number and (last is None or number <= last)
 
 
 def set_words(sets, company):
@@ -110,9 +100,7 @@ def fewest_sets(table):
     c = least_fall(table)
     if c is not None:
         return ("falls", c)
-    many = greatest_many(table)
-    if many > MOST_PEOPLE:
-        raise TooMany(many)
+    need_few(greatest_many(table))
     return ("row", set_row(table))
 
 

@@ -8,6 +8,12 @@ from boastrow.tables import folds, need_rows_table, need_table
 MOST_PEOPLE = 300
 
 
+def need_few(people):
+    """Refuse to tell of more people than may be told of."""
+    if people > MOST_PEOPLE:
+        raise TooMany(people)
+
+
 def rises(table):
     """The tuples (c, many): at c the table rises by many."""
     out = []
@@ -51,9 +57,7 @@ def row_of(table):
     c = least_fall(table)
     if c is not None:
         return ("falls", c)
-    many = people_needed(table)
-    if many > MOST_PEOPLE:
-        raise TooMany(many)
+    need_few(people_needed(table))
     return ("row", first_fewest(table))
 
 

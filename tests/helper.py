@@ -95,6 +95,17 @@ def numbers_in(stretches):
     return [number for first, last in stretches for number in range(first, last + 1)]
 
 
+def as_stretches(numbers):
+    """Rising numbers as stretches."""
+    out = []
+    for number in numbers:
+        if out and out[-1][1] == number - 1:
+            out[-1] = (out[-1][0], number)
+        else:
+            out.append((number, number))
+    return out
+
+
 def some_saying(chance, top):
     """A saying of numbers up to top, now and then without bound."""
     least = chance.randint(0, top)

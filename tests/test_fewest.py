@@ -7,22 +7,11 @@ from boastrow.fewest import fewest, may_go, within
 from boastrow.tables import never_comes, table_of
 from boastrow.wished import how_few, row_of
 from tests.helper import (
-    BIG, GREATEST, WRONG_NUMBERS, WRONG_ROWS, check_refusals, check_stretches, long_row, none_behind, numbers_in,
-    rows_to, some_rows,
+    BIG, GREATEST, WRONG_NUMBERS, WRONG_ROWS, as_stretches, check_refusals, check_stretches, long_row, none_behind,
+    numbers_in, rows_to, some_rows,
 )
 
 ROW = [(1, 2), (0, 0), (3, None), (2, 5)]
-
-
-def stretches_of(numbers):
-    """Rising numbers as stretches."""
-    out = []
-    for number in numbers:
-        if out and out[-1][1] == number - 1:
-            out[-1] = (out[-1][0], number)
-        else:
-            out.append((number, number))
-    return out
 
 
 def rows_of_all_sizes():
@@ -81,7 +70,7 @@ class Within(unittest.TestCase):
                 if people >= few:
                     self.assertEqual(told, ("row", fewest(row)))
                 else:
-                    self.assertEqual(told, ("totals", stretches_of(never[:people + 1])))
+                    self.assertEqual(told, ("totals", as_stretches(never[:people + 1])))
                     check_stretches(self, told[1])
                     self.assertEqual(len(numbers_in(told[1])), people + 1)
         self.assertEqual(kinds, {"row", "totals"})

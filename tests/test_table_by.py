@@ -5,7 +5,9 @@ import unittest
 
 from boastrow.errors import NoStretches, TooMany
 from boastrow.tables import folds, is_rows, never_comes, table_by, table_of
-from tests.helper import BIG, GREATEST, check_refusals, long_row, long_table, many_in, numbers_in, some_rows, some_tables
+from tests.helper import (
+    BIG, GREATEST, as_stretches, check_refusals, long_row, long_table, many_in, some_rows, some_tables,
+)
 
 WRONG_STRETCHES = [
     None, 0, True, "", "ab", {}, (), ((0, 1),), (0, 1), [0, 1], [None], [[0, 1]], [()], [(0,)], [(0, 1, 2)], [(2, 1)],
@@ -14,17 +16,6 @@ WRONG_STRETCHES = [
     [(0, 1), (3, 2)], object(),
 ]
 ENDLESS = [[(0, None)], [(0, 1), (3, None)], [(BIG, None)]]
-
-
-def as_stretches(numbers):
-    """Rising numbers as stretches."""
-    out = []
-    for number in numbers:
-        if out and out[-1][1] == number - 1:
-            out[-1] = (out[-1][0], number)
-        else:
-            out.append((number, number))
-    return out
 
 
 def totals_slowly(never, folded, reach):
