@@ -13,15 +13,19 @@ def need_three(front, back, wished):
     need_table(wished)
 
 
-def window(front, back, wished, company):
-    """(least, greatest): the numbers that front leads to the wished total at the company, or None."""
-    need_three(front, back, wished)
-    need_number(company)
-    total = company + level_at(wished, company)
+def led_to(front, total):
+    """(least, greatest): the numbers that front leads to the total, or None."""
     least = least_to_total(front, total)
     if least + level_at(front, least) != total:
         return None
     return (least, least_to_total(front, total + 1) - 1)
+
+
+def window(front, back, wished, company):
+    """(least, greatest): the numbers that front leads to the wished total at the company, or None."""
+    need_three(front, back, wished)
+    need_number(company)
+    return led_to(front, company + level_at(wished, company))
 
 
 def unfolded_at(back, wished):
@@ -59,9 +63,9 @@ def paper_against(front, back, wished):
 
 
 def bounds(front, back, wished):
-    """The list of tuples (number, fewest, most): back's totals, rising, and how many may be added to them.
+    """The list of tuples (company, number, fewest, most): back's totals, and how many may be added to them.
 
-    It holds up to the next total that is told. There is no paper that nobody can step in.
+    It holds up to the next company that is told. There is no paper that nobody can step in.
     """
     # Besides at steps of these two they change only where wished leaves a total behind that front has twice or more.
     turns = least_to_totals(wished, [c + many + 1 for c, many in front])
@@ -70,35 +74,35 @@ def bounds(front, back, wished):
     wants = [c + many for c, many in zip(points, levels_along(wished, points))]
     leasts = least_to_totals(front, wants)
     beyonds = least_to_totals(front, [total + 1 for total in wants])
-    return [(number, max(0, least - number), beyond - 1 - number)
-            for number, least, beyond in zip(numbers, leasts, beyonds)]
+    return [(c, number, max(0, least - number), beyond - 1 - number)
+            for c, number, least, beyond in zip(points, numbers, leasts, beyonds)]
 
 
 def moves(front, back, wished):
-    """The list of tuples (number, more): by how much those who step in add more to the number than ahead of it.
+    """The list of tuples (company, number, more): how many more those who step in add to back's total there.
 
     Where more is below 0, it goes down by ones, at so many numbers up to this one.
     """
     out = []
     many = 0
-    for number, fewest, most in bounds(front, back, wished):
+    for company, number, fewest, most in bounds(front, back, wished):
         wants = min(max(many, fewest), most)
         if wants != many:
-            out.append((number, wants - many))
+            out.append((company, number, wants - many))
         many = wants
     return out
 
 
 def people_moved(moved):
     """How many people the moves need: as many as they go up."""
-    return sum([more for _, more in moved if more > 0])
+    return sum([more for _, _, more in moved if more > 0])
 
 
 def table_moved(moved):
     """The table of the moves."""
     need_few(people_moved(moved))
     changes = {}
-    for number, more in moved:
+    for _, number, more in moved:
         if more > 0:
             changes[number] = more
         for c in range(number + more + 1, number + 1):

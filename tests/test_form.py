@@ -55,6 +55,22 @@ INTERFACE = {
         "step_between(front, back, wished)", "in_front(now, wished)", "step_behind(now, wished)",
         "left_front(row, many)", "spare_front(row, many)", "spare_behind(row, many)",
     ],
+    "judge_steps": [
+        "nobody_shows(front, back, wished, paper)", "needs_paper(front, back, wished)",
+        "needs_shown(front, back, wished, paper)",
+    ],
+    "meetings": ["front_for_both(one, other)", "behind_for_both(one, other)"],
+    "powers": [
+        "is_long(thing)", "people_in(long)", "laid_out(long)", "saying_at(long, place)", "which_at(long, place)",
+        "place_of(long, number, time)",
+    ],
+    "far": [
+        "far_total(long, company)", "least_company(long, total)", "ever_comes(long, total)",
+        "is_folded(long, company)", "far_heard(long, company, place)", "far_speaks(long, company, place)",
+        "true_among(long, company, many)", "so_manieth(long, company, number)", "account(long, company)",
+        "account_holds(long, company, thing)", "stretch_at(long, place)", "times_until(long, company, total)",
+        "rest_of(long, company)",
+    ],
 }
 CLASSES = {
     ("shelves", "Shelf"): [

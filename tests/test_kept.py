@@ -4,11 +4,18 @@ import unittest
 
 from boastrow.apart import alike, least_apart, least_less
 from boastrow.between import front_first, needed, table_between, window
+from boastrow.far import (
+    account, account_holds, ever_comes, far_heard, far_speaks, far_total, is_folded, least_company, rest_of, so_manieth,
+    stretch_at, times_until, true_among,
+)
 from boastrow.fewest import fewest, may_go, within
 from boastrow.judge_apart import apart_holds
 from boastrow.judge_fewest import falls_holds, totals_hold
 from boastrow.judge_lots import lot_shows
+from boastrow.judge_steps import needs_paper, needs_shown, nobody_shows
 from boastrow.lots import bars, crossed, lot_table, more_for, nested, row_for, row_in_order
+from boastrow.meetings import behind_for_both, front_for_both
+from boastrow.powers import is_long, laid_out, people_in, place_of, saying_at, which_at
 from boastrow.rows import changed, comes, heard, parted, put_in, taken, total, words
 from boastrow.sets import (
     at_once, fewest_sets, set_table, set_total, set_words, sets_apart, sets_of, sayings_more, shown_at_once, true_at,
@@ -35,6 +42,8 @@ OTHERS = [[(0, 0)], [(1, 4), (6, 6)]]
 FRONT = [(0, 0), (2, 2), (3, 1), (4, 0)]
 BACK = [(0, 1), (3, 0)]
 WISHED = [(0, 8), (3, 7), (5, 9)]
+LONG = [(0, 1), ("again", 3, [(2, None), ("again", 2, [(1, 1), (0, 0)])]), (5, 6)]
+LONGER = [("again", 400, [(0, 7)]), ("again", 2, [(3, None), ("again", 4, [])]), (2, 2)]
 SHELF = [(0, 1), (2, 3), (4, 0)]
 BOOKS = [(0, 4), (3, 2), (4, 0)]
 
@@ -198,3 +207,50 @@ class Kept(unittest.TestCase):
         check_own(self, left_front, [ROW, 2], [OTHER, 2])
         check_own(self, spare_front, [[(0, 0), (0, 0), (0, None)], 2], [[(0, None)] * 3, 2])
         check_own(self, spare_behind, [[(0, 9), (0, 0), (0, 0)], 2], [[(0, None)] * 3, 2])
+
+    def test_judges_of_steps(self):
+        check_own(self, nobody_shows, [FRONT, BACK, [(0, 3)], ("never", 3)], [[(0, 0)], BACK, [(0, 3)], ("never", 3)])
+        check_own(self, needs_paper, [[(0, 0)], BACK, WISHED], [[(0, 0)], BACK, [(0, 1), (4, 7)]])
+        check_own(self, needs_paper, [[(0, 0)], [(0, 1)], [(0, 1)]], [[(0, 0)], [(0, 2)], [(0, 1)]])
+        paper = ("rises", [(None, 0)])
+        check_own(self, needs_shown, [[(0, 0)], BACK, WISHED, paper], [[(0, 0)], BACK, [(0, 9), (3, 8)], paper])
+
+    def test_meetings(self):
+        for call in (front_for_both, behind_for_both):
+            check_own(self, call, [TABLE, LESS], [FRONT, LESS])
+            check_own(self, call, [BACK, [(0, 0)]], [FRONT, [(0, 0)]])
+            table = list(TABLE)
+            self.assertIsNot(call(table, table), table)
+
+    def test_long_rows(self):
+        for call in (people_in, laid_out):
+            check_own(self, call, [LONG], [LONG[:2]])
+        check_own(self, laid_out, [[(0, 1), (2, 3)]], [LONG])
+        check_own(self, is_long, [LONG], [[(1, 0)]])
+        check_own(self, saying_at, [LONG, 1], [LONGER, 1])
+        check_own(self, which_at, [LONG, 1], [LONGER, 1])
+        check_own(self, place_of, [LONG, 1, 0], [LONGER, 1, 0])
+
+    def test_far(self):
+        for call, left in ((far_total, []), (account, []), (far_heard, [0]), (true_among, [9]), (so_manieth, [1])):
+            check_own(self, call, [LONG, 3, *left], [LONGER, 3, *left])
+            check_own(self, call, [LONGER, 3, *left], [LONG, 3, *left])
+        check_own(self, least_company, [LONG, 9], [[(0, 1)], 9])
+        check_own(self, rest_of, [[(0, 7)], 2], [[("again", 400, [(0, 9)])], 2])
+        check_own(self, rest_of, [LONG, 2], [[(0, 9)], 2])
+        check_own(self, times_until, [LONG, 3, 9], [[("again", 400, [(0, 9)])], 3, 9])
+        check_own(self, ever_comes, [LONG, 1], [[], 1])
+        check_own(self, is_folded, [[(0, 0)], 0], [[], 0])
+        check_own(self, far_speaks, [[(0, None)] * 3, 0, 0], [LONGER, 0, 0])
+        check_own(self, stretch_at, [[(0, None)] * 3, 0], [LONGER, 0])
+        check_own(self, account_holds, [LONG, 3, account(LONG, 3)], [LONGER, 3, account(LONG, 3)])
+
+    def test_lists_within_a_long_row(self):
+        inner = [(1, 1), (0, 0)]
+        long = [(0, 1), ("again", 900, [(2, None), ("again", 2, inner)])]
+        first = [far_total(long, 0), people_in(long), account(long, 0), which_at(long, 5)]
+        inner[:] = [(0, None)]
+        other = [(0, 1), ("again", 900, [(2, None), ("again", 2, [(0, None)])])]
+        later = [far_total(long, 0), people_in(long), account(long, 0), which_at(long, 5)]
+        self.assertEqual(later, [far_total(other, 0), people_in(other), account(other, 0), which_at(other, 5)])
+        self.assertTrue(all(one != two for one, two in zip(first, later)))

@@ -1,0 +1,179 @@
+"""Crowds: people one behind the other, however many; no part of the interface. Nothing here refuses.
+
+A crowd is never changed once it is made, so that one may stand in many others, and what is known of it is kept.
+"""
+
+# A short row of so many people at most is not parted any more.
+SHORT = 16
+
+
+class Crowd:
+    """A short row; or two crowds, one behind the other; or one crowd said over at least twice."""
+
+    def __init__(self, row, front, back, times):
+        self.row = row
+        self.front = front
+        # Of one that is said over the crowd that is.
+        self.back = back
+        self.times = times
+        if back is None:
+            self.size = len(row)
+            self.height = 0
+        elif front is None:
+            self.size = times * back.size
+            self.height = 0
+        else:
+            self.size = front.size + back.size
+            self.height = max(front.height, back.height) + 1
+        # How many people would speak truly if all heard c: from each of the points on so many, as soon as it is asked.
+        self.points = None
+        self.manies = None
+        # The same people turned about, as soon as it is asked.
+        self.turned = None
+
+
+def row_crowd(row):
+    """A crowd of the people of a row."""
+    return Crowd(row, None, None, 0)
+
+
+def nobody():
+    """A crowd of nobody."""
+    return row_crowd([])
+
+
+def said_over(crowd, times):
+    """The crowd so many times, one behind the other."""
+    if times == 0 or crowd.size == 0:
+        return nobody()
+    if times == 1:
+        return crowd
+    if crowd.times > 0:
+        return Crowd(None, None, crowd.back, times * crowd.times)
+    if crowd.size * times <= SHORT:
+        return row_crowd(crowd.row * times)
+    return Crowd(None, None, crowd, times)
+
+
+def paired(front, back):
+    """Two crowds of about the same height, neither of nobody, one behind the other."""
+    if front.row is not None and back.row is not None and front.size + back.size <= SHORT:
+        return row_crowd(front.row + back.row)
+    return Crowd(None, front, back, 0)
+
+
+def levelled_pair(front, back):
+    """Two crowds, of which one is perhaps a little too high beside the other one, put together level."""
+    if back.height > front.height + 1:
+        if back.front.height > back.back.height:
+            inner = back.front
+            return paired(paired(front, inner.front), paired(inner.back, back.back))
+        return paired(paired(front, back.front), back.back)
+    if front.height > back.height + 1:
+        if front.back.height > front.front.height:
+            inner = front.back
+            return paired(paired(front.front, inner.front), paired(inner.back, back))
+        return paired(front.front, paired(front.back, back))
+    return paired(front, back)
+
+
+def put_together(front, back):
+    """Two crowds, one behind the other."""
+    if front.size == 0:
+        return back
+    if back.size == 0:
+        return front
+    if front.height > back.height + 1:
+        return levelled_pair(front.front, put_together(front.back, back))
+    if back.height > front.height + 1:
+        return levelled_pair(put_together(front, back.front), back.back)
+    return paired(front, back)
+
+
+def gathered(crowds):
+    """All of the crowds, one behind the other."""
+    if len(crowds) < 2:
+        return crowds[0] if crowds else nobody()
+    middle = len(crowds) // 2
+    return put_together(gathered(crowds[:middle]), gathered(crowds[middle:]))
+
+
+def short_rows(row):
+    """A row as a list of crowds of short rows."""
+    return [row_crowd(row[at:at + SHORT]) for at in range(0, len(row), SHORT)]
+
+
+def crowd_of(long):
+    """The people of a long row."""
+    waiting = []
+    body = long
+    at = 0
+    crowds = []
+    run = []
+    while True:
+        if at < len(body) and len(body[at]) == 2:
+            run.append(body[at])
+            at += 1
+            continue
+        crowds += short_rows(run)
+        run = []
+        if at < len(body):
+            _, many, inner = body[at]
+            waiting.append((body, at + 1, many, crowds))
+            body = inner if many > 0 else ()
+            at = 0
+            crowds = []
+        elif waiting:
+            said = said_over(gathered(crowds), waiting[-1][2])
+            body, at, _, crowds = waiting.pop()
+            crowds.append(said)
+        else:
+            return gathered(crowds)
+
+
+def split_crowd(crowd, place):
+    """(front, back): the crowd parted at a place, at most its size."""
+    if place == 0:
+        return (nobody(), crowd)
+    if place == crowd.size:
+        return (crowd, nobody())
+    fronts = []
+    backs = []
+    inner = crowd
+    left = place
+    while inner.row is None:
+        if inner.times > 0:
+            times, left = divmod(left, inner.back.size)
+            fronts.append(said_over(inner.back, times))
+            backs.append(said_over(inner.back, inner.times - 1 - times))
+            inner = inner.back
+        elif left < inner.front.size:
+            backs.append(inner.back)
+            inner = inner.front
+        else:
+            fronts.append(inner.front)
+            left -= inner.front.size
+            inner = inner.back
+    front = row_crowd(inner.row[:left])
+    back = row_crowd(inner.row[left:])
+    for piece in reversed(fronts):
+        front = put_together(piece, front)
+    for piece in reversed(backs):
+        back = put_together(back, piece)
+    return (front, back)
+
+
+def saying_in(crowd, place):
+    """The saying of the person at the place."""
+    inner = crowd
+    left = place
+    while inner.row is None:
+        if inner.times > 0:
+            left = left % inner.back.size
+            inner = inner.back
+        elif left < inner.front.size:
+            inner = inner.front
+        else:
+            left -= inner.front.size
+            inner = inner.back
+    return inner.row[left]

@@ -1,0 +1,80 @@
+"""The shared crowds and climbs: crowds put together and parted, against lists of their people."""
+
+import random
+import unittest
+
+from boastrow.climbs import Climb, come_of, wish_of
+from boastrow.crowds import crowd_of, gathered, put_together, row_crowd, said_over, saying_in, split_crowd
+from boastrow.levels import wish_behind
+from tests.helper import some_saying, walked_total
+from tests.long_helper import lay_by_hand, some_longs
+
+
+def people_of(crowd):
+    """The people of a crowd, one by one."""
+    return [saying_in(crowd, place) for place in range(crowd.size)]
+
+
+def grown_by_chance(chance, deeds):
+    """(crowd, row): put together, said over and parted by chance, and the same done to a list."""
+    crowd, row = row_crowd([]), []
+    for _ in range(deeds):
+        more = [some_saying(chance, 60) for _ in range(chance.randint(0, 30))]
+        deed = chance.randint(0, 3)
+        if deed == 0:
+            crowd, row = put_together(crowd, crowd_of(more)), row + more
+        elif deed == 1:
+            crowd, row = put_together(crowd_of(more), crowd), more + row
+        elif deed == 2 and len(row) < 400:
+            times = chance.randint(0, 3)
+            crowd, row = said_over(crowd, times), row * times
+        else:
+            place = chance.randint(0, len(row))
+            front, back = split_crowd(crowd, place)
+            crowd, row = put_together(back, front), row[place:] + row[:place]
+    return (crowd, row)
+
+
+class Crowds(unittest.TestCase):
+    def test_of_long_rows(self):
+        for long in some_longs(701, 80):
+            self.assertEqual(people_of(crowd_of(long)), lay_by_hand(long))
+
+    def test_put_together_and_parted(self):
+        chance = random.Random(702)
+        for _ in range(40):
+            crowd, row = grown_by_chance(chance, 12)
+            self.assertEqual(people_of(crowd), row)
+            for place in {0, len(row), chance.randint(0, len(row)), chance.randint(0, len(row))}:
+                front, back = split_crowd(crowd, place)
+                self.assertEqual((people_of(front), people_of(back)), (row[:place], row[place:]))
+            self.assertEqual(people_of(crowd), row)
+
+    def test_they_stay_low(self):
+        crowd = row_crowd([])
+        for at in range(2000):
+            crowd = put_together(crowd, row_crowd([(at, at)] * 16))
+        self.assertLess(crowd.height, 20)
+        for _ in range(50):
+            front, back = split_crowd(crowd, crowd.size // 3)
+            crowd = put_together(back, front)
+        self.assertLess(crowd.height, 25)
+        self.assertLess(gathered([row_crowd([(0, 1)] * 16)] * 1000).height, 12)
+
+    def test_climbs_and_wishes(self):
+        chance = random.Random(703)
+        for _ in range(60):
+            crowd, row = grown_by_chance(chance, 8)
+            for _ in range(5):
+                company, people = chance.randint(0, 60), chance.randint(0, len(row))
+                behind = row[len(row) - people:]
+                total = walked_total(behind, company) if len(behind) < 150 else come_of(row_crowd(behind), company, people)
+                self.assertEqual(come_of(crowd, company, people), total)
+                self.assertEqual(wish_of(crowd, company, people), wish_behind(behind, company))
+                if total > company:
+                    goal = chance.randint(company + 1, total)
+                    climb = Climb(crowd, company)
+                    climb.go(crowd.size, goal)
+                    self.assertEqual(climb.value, goal)
+                    self.assertEqual(come_of(crowd, company, climb.passed), goal)
+                    self.assertEqual(come_of(crowd, company, climb.passed - 1), goal - 1)
