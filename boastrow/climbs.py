@@ -5,7 +5,8 @@ saying of the crowd begins or ends to be true, each saying stays true or false, 
 counted, and nobody goes it.
 """
 
-from boastrow.levels import changes_by, wish_behind
+from boastrow.crowds import flat_if_few, saying_in
+from boastrow.levels import changes_by, stretch_to, wish_behind
 
 
 def changes_in(crowd):
@@ -133,7 +134,7 @@ class Climb:
     """On the way to the front: how many people are passed, and how many of them and of the company speak truly."""
 
     def __init__(self, crowd, company):
-        self.crowd = crowd
+        self.crowd = flat_if_few(crowd)
         self.passed = 0
         self.value = company
 
@@ -183,8 +184,9 @@ def come_of(crowd, company, people):
 
 def wish_of(crowd, wish, people):
     """What comes of the wish behind so many of the hindmost people, all of whom it goes through."""
-    if crowd.row is not None:
-        return wish_behind(crowd.row[crowd.size - people:], wish)
+    flat = flat_if_few(crowd)
+    if flat.row is not None:
+        return wish_behind(flat.row[flat.size - people:], wish)
     count_true(crowd)
     points = crowd.points
     # Whoever has a wish hands on one less just where it would speak truly if it heard one less than the wish.
@@ -198,3 +200,16 @@ def wish_of(crowd, wish, people):
         left = people_to(crowd, wish - 1, true - (wish - points[at]) + 1) - 1
         wish = points[at]
     return wish
+
+
+def speaks_in(crowd, company, place):
+    """Whether the person at the place speaks truly."""
+    return holds(saying_in(crowd, place), come_of(crowd, company, crowd.size - 1 - place))
+
+
+def stretch_in(crowd, place):
+    """The companies by which the person at the place speaks truly: a stretch, or None."""
+    least, most = saying_in(crowd, place)
+    behind = crowd.size - 1 - place
+    first = wish_of(crowd, least, behind)
+    return stretch_to(first, None if most is None else wish_of(crowd, most + 1, behind))

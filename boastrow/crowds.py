@@ -5,6 +5,8 @@ A crowd is never changed once it is made, so that one may stand in many others, 
 
 # A short row of so many people at most is not parted any more.
 SHORT = 16
+# Up to so many people are walked person by person: that is sooner than to count where they need not be.
+FEW = 1000
 
 
 class Crowd:
@@ -28,6 +30,8 @@ class Crowd:
         # How many people would speak truly if all heard c: from each of the points on so many, as soon as it is asked.
         self.points = None
         self.manies = None
+        # The same people as one row, where they are few, as soon as it is asked.
+        self.flat = None
         # The same people turned about, as soon as it is asked.
         self.turned = None
 
@@ -129,6 +133,70 @@ def crowd_of(long):
             crowds.append(said)
         else:
             return gathered(crowds)
+
+
+def people_list(crowd):
+    """The people of a crowd of few, one by one, front first."""
+    out = []
+    waiting = [crowd]
+    while waiting:
+        inner = waiting.pop()
+        if inner.row is not None:
+            out += inner.row
+        elif inner.times > 0:
+            waiting += [inner.back] * inner.times
+        else:
+            waiting += [inner.back, inner.front]
+    return out
+
+
+def flat_if_few(crowd):
+    """The crowd as one row, where its people are few; else as it is."""
+    if crowd.row is not None or crowd.size > FEW:
+        return crowd
+    if crowd.flat is None:
+        crowd.flat = row_crowd(people_list(crowd))
+    return crowd.flat
+
+
+def turned_about(crowd):
+    """The crowd turned about: who stood last stands in front, and so on."""
+    waiting = [crowd]
+    while waiting:
+        inner = waiting[-1]
+        parts = [part for part in (inner.front, inner.back) if part is not None and part.turned is None]
+        if inner.turned is not None:
+            waiting.pop()
+        elif parts:
+            waiting += parts
+        else:
+            if inner.row is not None:
+                turned = row_crowd(inner.row[::-1])
+            elif inner.times > 0:
+                turned = Crowd(None, None, inner.back.turned, inner.times)
+            else:
+                turned = Crowd(None, inner.back.turned, inner.front.turned, 0)
+            inner.turned = turned
+            turned.turned = inner
+    return crowd.turned
+
+
+def long_of(crowd):
+    """A long row of the crowd's people, lists within agains, too."""
+    out = []
+    waiting = [(crowd, out)]
+    while waiting:
+        inner, told = waiting.pop()
+        if inner.row is not None:
+            told += inner.row
+        elif inner.times > 0:
+            said = []
+            told.append(("again", inner.times, said))
+            waiting.append((inner.back, said))
+        else:
+            waiting.append((inner.back, told))
+            waiting.append((inner.front, told))
+    return out
 
 
 def split_crowd(crowd, place):

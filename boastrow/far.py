@@ -1,13 +1,9 @@
 """Long rows, far out: what comes of them, told without going through their people one by one."""
 
-from boastrow.climbs import Climb, come_of, count_true, holds, wish_of
-from boastrow.crowds import crowd_of, row_crowd, said_over, saying_in
-from boastrow.levels import stretch_to
+from boastrow.climbs import Climb, come_of, count_true, speaks_in, stretch_in, wish_of
+from boastrow.crowds import FEW, crowd_of, row_crowd, said_over
 from boastrow.powers import lay, need_long, spots_of, times_among
 from boastrow.rows import is_number, need_number, need_place
-
-# Up to so many people are walked person by person: that is sooner than to count where they need not be.
-FEW = 1000
 
 
 def people_of(long):
@@ -57,7 +53,7 @@ def far_speaks(long, company, place):
     crowd = people_of(long)
     need_number(company)
     need_place(place, crowd.size)
-    return holds(saying_in(crowd, place), come_of(crowd, company, crowd.size - 1 - place))
+    return speaks_in(crowd, company, place)
 
 
 def true_among(long, company, many):
@@ -140,10 +136,7 @@ def stretch_at(long, place):
     """The companies by which the person at the place speaks truly: a stretch, or None."""
     crowd = people_of(long)
     need_place(place, crowd.size)
-    least, most = saying_in(crowd, place)
-    behind = crowd.size - 1 - place
-    first = wish_of(crowd, least, behind)
-    return stretch_to(first, None if most is None else wish_of(crowd, most + 1, behind))
+    return stretch_in(crowd, place)
 
 
 def times_for(people, crowd):

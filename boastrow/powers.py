@@ -73,6 +73,22 @@ def lay(long):
     return out
 
 
+def copied(long):
+    """The long row anew, lists within agains, too. Who calls has looked at it."""
+    out = []
+    waiting = [(long, out)]
+    while waiting:
+        body, told = waiting.pop()
+        for item in body:
+            if len(item) == 2:
+                told.append(item)
+            else:
+                inner = []
+                told.append(("again", item[1], inner))
+                waiting.append((item[2], inner))
+    return out
+
+
 def people_in(long):
     """How many people the long row has."""
     return need_long(long)
