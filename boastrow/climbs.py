@@ -26,7 +26,9 @@ def count_here(crowd):
     """Tell a crowd of which all parts know theirs its points and manies."""
     if crowd.times > 0:
         crowd.points = crowd.back.points
-        crowd.manies = [many * crowd.times for many in crowd.back.manies]
+        crowd.manies = crowd.back.manies
+        if crowd.times > 1:
+            crowd.manies = [many * crowd.times for many in crowd.back.manies]
         return
     # Also a point at which as many begin to be true as end is one: it makes a difference who does.
     changes = changes_in(crowd)

@@ -7,10 +7,12 @@ A crowd is never changed once it is made, so that one may stand in many others, 
 SHORT = 16
 # Up to so many people are walked person by person: that is sooner than to count where they need not be.
 FEW = 1000
+# A crowd of so many levels at most is put into another one as it is.
+LOW = 2
 
 
 class Crowd:
-    """A short row; or two crowds, one behind the other; or one crowd said over at least twice."""
+    """A short row; or two crowds, one behind the other; or one crowd said over, perhaps but once."""
 
     def __init__(self, row, front, back, times):
         self.row = row
@@ -189,7 +191,9 @@ def long_of(crowd):
         inner, told = waiting.pop()
         if inner.row is not None:
             told += inner.row
-        elif inner.times > 0:
+        elif inner.times == 1:
+            waiting.append((inner.back, told))
+        elif inner.times > 1:
             said = []
             told.append(("again", inner.times, said))
             waiting.append((inner.back, said))
@@ -199,12 +203,18 @@ def long_of(crowd):
     return out
 
 
+def closed(crowd):
+    """The crowd as one piece of another one, which need not be made level with all that is in it."""
+    return Crowd(None, None, crowd, 1) if crowd.height > LOW else crowd
+
+
 def split_crowd(crowd, place):
     """(front, back): the crowd parted at a place, at most its size."""
     if place == 0:
         return (nobody(), crowd)
     if place == crowd.size:
         return (crowd, nobody())
+    # The pieces ahead of the place and behind it, the outermost first, None where one goes into a crowd said over.
     fronts = []
     backs = []
     inner = crowd
@@ -212,8 +222,8 @@ def split_crowd(crowd, place):
     while inner.row is None:
         if inner.times > 0:
             times, left = divmod(left, inner.back.size)
-            fronts.append(said_over(inner.back, times))
-            backs.append(said_over(inner.back, inner.times - 1 - times))
+            fronts += [said_over(inner.back, times), None]
+            backs += [said_over(inner.back, inner.times - 1 - times), None]
             inner = inner.back
         elif left < inner.front.size:
             backs.append(inner.back)
@@ -225,9 +235,9 @@ def split_crowd(crowd, place):
     front = row_crowd(inner.row[:left])
     back = row_crowd(inner.row[left:])
     for piece in reversed(fronts):
-        front = put_together(piece, front)
+        front = closed(front) if piece is None else put_together(piece, front)
     for piece in reversed(backs):
-        back = put_together(back, piece)
+        back = closed(back) if piece is None else put_together(back, piece)
     return (front, back)
 
 

@@ -3,7 +3,6 @@
 from boastrow.errors import NoStretches, NoText
 from boastrow.lots import is_lot
 from boastrow.powers import is_long, need_long
-from boastrow.rows import is_saying
 from boastrow.shelves import is_mark, need_shelf
 from boastrow.tables import need_table
 

@@ -2,12 +2,17 @@
 
 import random
 import unittest
+from unittest import mock
 
 from boastrow.climbs import Climb, come_of, wish_of
-from boastrow.crowds import crowd_of, gathered, put_together, row_crowd, said_over, saying_in, split_crowd
+from boastrow.crowds import (
+    crowd_of, flat_if_few, gathered, long_of, people_list, put_together, row_crowd, said_over, saying_in, split_crowd,
+    turned_about,
+)
 from boastrow.levels import wish_behind
-from tests.helper import some_saying, walked_total
+from tests.helper import some_saying
 from tests.long_helper import lay_by_hand, some_longs
+from tests.test_far import walked_far
 
 
 def people_of(crowd):
@@ -50,6 +55,17 @@ class Crowds(unittest.TestCase):
                 self.assertEqual((people_of(front), people_of(back)), (row[:place], row[place:]))
             self.assertEqual(people_of(crowd), row)
 
+    def test_told_and_turned_about(self):
+        chance = random.Random(705)
+        for _ in range(30):
+            crowd, row = grown_by_chance(chance, 12)
+            self.assertEqual(people_list(crowd), row)
+            self.assertEqual(lay_by_hand(long_of(crowd)), row)
+            self.assertEqual(people_of(turned_about(crowd)), row[::-1])
+            self.assertEqual(turned_about(turned_about(crowd)), crowd)
+            self.assertEqual(people_of(flat_if_few(crowd)), row)
+            self.assertEqual(people_of(crowd), row)
+
     def test_they_stay_low(self):
         crowd = row_crowd([])
         for at in range(2000):
@@ -62,13 +78,18 @@ class Crowds(unittest.TestCase):
         self.assertLess(gathered([row_crowd([(0, 1)] * 16)] * 1000).height, 12)
 
     def test_climbs_and_wishes(self):
-        chance = random.Random(703)
+        self.climb_and_wish(random.Random(703))
+        with mock.patch("boastrow.crowds.FEW", -1):
+            self.climb_and_wish(random.Random(704))
+
+    def climb_and_wish(self, chance):
+        """Climbs and wishes against the people one by one."""
         for _ in range(60):
             crowd, row = grown_by_chance(chance, 8)
             for _ in range(5):
                 company, people = chance.randint(0, 60), chance.randint(0, len(row))
                 behind = row[len(row) - people:]
-                total = walked_total(behind, company) if len(behind) < 150 else come_of(row_crowd(behind), company, people)
+                total = walked_far(behind, company)[2]
                 self.assertEqual(come_of(crowd, company, people), total)
                 self.assertEqual(wish_of(crowd, company, people), wish_behind(behind, company))
                 if total > company:

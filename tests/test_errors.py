@@ -1,7 +1,10 @@
 """Point 3: the refusals."""
 
+import ast
+import pathlib
 import unittest
 
+import boastrow
 from boastrow import errors
 
 PLAIN = [
@@ -60,3 +63,13 @@ class Errors(unittest.TestCase):
     def test_they_are_shown(self):
         for name in ALL:
             self.assertIsInstance(str(made(name)), str)
+
+    def test_each_is_raised_somewhere_and_made_on_the_spot(self):
+        raised = set()
+        for path in sorted(pathlib.Path(boastrow.__file__).parent.glob("*.py")):
+            for node in ast.walk(ast.parse(path.read_text())):
+                if isinstance(node, ast.Raise):
+                    self.assertIsInstance(node.exc, ast.Call)
+                    raised.add(node.exc.func.id)
+                    self.assertEqual((len(node.exc.args), node.exc.keywords), (1, []))
+        self.assertEqual(sorted(raised), sorted(ALL))

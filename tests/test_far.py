@@ -3,6 +3,7 @@
 import copy
 import random
 import unittest
+from unittest import mock
 
 from boastrow.errors import NoLong, NoNumber, NoPlace
 from boastrow.far import (
@@ -127,6 +128,16 @@ class LaidOut(unittest.TestCase):
         self.assertEqual(account(long, 0), [(0, 10 ** 25), (0, 1)])
         self.assertEqual(least_company(long, 10 ** 25 + 1), 0)
         self.assertEqual(far_total(long, 1), 10 ** 25 + 1)
+
+
+class LaidOutButCounted(LaidOut):
+    """The same, as if there were no rows of few people that are walked person by person."""
+
+    def setUp(self):
+        for name in ("boastrow.far.FEW", "boastrow.crowds.FEW"):
+            patch = mock.patch(name, -1)
+            patch.start()
+            self.addCleanup(patch.stop)
 
 
 class FarOut(unittest.TestCase):

@@ -1,6 +1,7 @@
 """The form of the package: the interface as it is written, and what the code may look like."""
 
 import ast
+import builtins
 import importlib
 import inspect
 import pathlib
@@ -71,13 +72,37 @@ INTERFACE = {
         "account_holds(long, company, thing)", "stretch_at(long, place)", "times_until(long, company, total)",
         "rest_of(long, company)",
     ],
+    "rounds": [
+        "is_consistent(row, words, *, company=0)", "tellings(row, *, company=0)", "least_telling(row, *, company=0)",
+        "nth_telling(row, number, *, company=0)", "why_not(row, true, *, company=0)",
+        "round_shows(row, paper, *, company=0)", "least_beside(row)",
+    ],
+    "halls": ["Hall()"],
+    "texts": [
+        "show_row(row)", "show_table(table)", "show_stretches(stretches)", "show_shelf(shelf)", "read_row(text)",
+        "read_table(text)", "read_stretches(text)", "read_lot(text)", "read_shelf(text)",
+    ],
+    "orders": ["order_of(text)", "show_order(order)"],
+    "desk": ["Desk()"],
 }
 CLASSES = {
     ("shelves", "Shelf"): [
         "double(self, m)", "strike(self, m)", "enter(self, saying)", "undo(self)", "told(self)", "number_of(self, m)",
         "many_to(self, number)", "__eq__(self, other)", "__len__(self)",
     ],
+    ("halls", "Hall"): [
+        "begin(self, name, long)", "step_in(self, name, place, saying)", "go(self, name, place)",
+        "resay(self, name, place, saying)", "cut(self, name, place, other)", "join_to(self, name, other)",
+        "say_over(self, name, many)", "turn_about(self, name)", "drop(self, name)", "undo(self)", "redo(self)",
+        "names(self)", "people(self, name)", "total(self, name, company)", "least(self, name, total)",
+        "saying(self, name, place)", "speaks(self, name, company, place)", "long_row(self, name)",
+        "together(self, names, company)", "deeds(self)", "do(self, deed)", "gained(self, name, company)", "twin(self)",
+        "__len__(self)",
+    ],
+    ("desk", "Desk"): ["say(self, text)", "hall(self)"],
 }
+# What comes from outside the package.
+LIBRARY = [("math", "comb")]
 BARRED = (ast.GeneratorExp, ast.Yield, ast.YieldFrom, ast.Global, ast.AsyncFunctionDef, ast.Await, ast.Set, ast.Div)
 
 
@@ -141,10 +166,11 @@ class Form(unittest.TestCase):
         for path in files():
             for node in ast.walk(ast.parse(path.read_text())):
                 self.assertNotIsInstance(node, ast.Import, path)
-                if isinstance(node, ast.ImportFrom):
+                if isinstance(node, ast.ImportFrom) and (node.module, node.names[0].name) not in LIBRARY:
                     self.assertEqual((node.module.split(".")[0], node.level), ("boastrow", 0), path)
                     defined = ast.parse((PACKAGE / (node.module.split(".")[1] + ".py")).read_text()).body
                     names = [one.name for one in defined if isinstance(one, (ast.FunctionDef, ast.ClassDef))]
+                    names += [one.targets[0].id for one in defined if isinstance(one, ast.Assign)]
                     for one in node.names:
                         self.assertIn(one.name, names, path)
 
@@ -154,4 +180,39 @@ class Form(unittest.TestCase):
             for node in ast.parse(path.read_text()).body:
                 names += [one.name for one in node.names] if isinstance(node, ast.ImportFrom) else []
                 names += [node.name] if isinstance(node, (ast.FunctionDef, ast.ClassDef)) else []
+                names += [node.targets[0].id] if isinstance(node, ast.Assign) else []
             self.assertEqual(len(names), len(set(names)), path)
+
+    def test_all_that_is_imported_is_used(self):
+        for path in files():
+            tree = ast.parse(path.read_text())
+            used = {node.id for node in ast.walk(tree) if isinstance(node, ast.Name)}
+            for node in tree.body:
+                for one in node.names if isinstance(node, ast.ImportFrom) else []:
+                    self.assertIn(one.name, used, path)
+
+    def test_no_two_files_import_from_each_other(self):
+        ahead = {}
+        for path in files():
+            found = [node.module for node in ast.walk(ast.parse(path.read_text())) if isinstance(node, ast.ImportFrom)]
+            ahead[path.stem] = [module.split(".")[1] for module in found if module.startswith("boastrow.")]
+        while ahead:
+            free = [name for name, left in ahead.items() if not any(one in ahead for one in left)]
+            self.assertTrue(free, ahead)
+            for name in free:
+                del ahead[name]
+
+    def test_no_name_of_a_builtin(self):
+        for path in files():
+            for node in ast.walk(ast.parse(path.read_text())):
+                names = [node.id] if isinstance(node, ast.Name) and isinstance(node.ctx, ast.Store) else []
+                names += [node.arg] if isinstance(node, ast.arg) else []
+                names += [node.name] if isinstance(node, (ast.FunctionDef, ast.ClassDef)) else []
+                for name in names:
+                    self.assertTrue(name.startswith("__") or not hasattr(builtins, name), (path, name))
+
+    def test_no_percent_sign_in_a_string(self):
+        for path in files():
+            for node in ast.walk(ast.parse(path.read_text())):
+                if isinstance(node, ast.Constant) and isinstance(node.value, str):
+                    self.assertNotIn("%", node.value, path)
