@@ -126,7 +126,8 @@ class Desk:
         elif word == "redo":
             self._hall.redo()
         elif word in DEEDS:
-            self._hall.do((DEEDS[word], *order[1:]))
+            things = order[1:]
+            self._hall.do((DEEDS[word], *things))
         else:
             return self._answer(order)
         return "ok"

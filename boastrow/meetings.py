@@ -18,7 +18,7 @@ def merged(stretches):
 
 
 def lifted(table, lifts):
-    """The table, but with one total by all companies from first to last, of each (first, last, total)."""
+    """The table, but with one total by all companies, if any, from first to last, of each (first, last, total)."""
     totals = {c: total for first, last, total in lifts for c in range(first, last + 1)}
     behind = [last + 1 for _, last, _ in lifts]
     points = sorted(set([c for c, _ in table] + list(totals) + behind))
@@ -29,9 +29,8 @@ def lifted(table, lifts):
 def front_for_both(one, other):
     """The least table that both rows' tables can be made into by people in front."""
     greater = greater_of(one, other)
-    # Companies that come to one total in one of both come to one total whoever stands in front.
-    lifts = [(first, last + 1, last + 1 + level_at(greater, last + 1))
-             for first, last in merged(folds(one) + folds(other))]
+    # Companies that come to one total in one of both do so whoever stands in front: to that of the last of them.
+    lifts = [(first, last, last + 1 + level_at(greater, last + 1)) for first, last in merged(folds(one) + folds(other))]
     return lifted(greater, lifts)
 
 
@@ -39,11 +38,7 @@ def behind_for_both(one, other):
     """The least table that both rows' tables can be made into by people behind."""
     greater = greater_of(one, other)
     need_few(max(greatest_many(one), greatest_many(other)))
-    lifts = []
     # A total that one of both never has is none whoever stands behind: the next one is the least that may be.
-    for first, last in merged(never_comes(one) + never_comes(other)):
-        begun = least_to_total(greater, first)
-        beyond = least_to_total(greater, last + 1)
-        if begun < beyond:
-            lifts.append((begun, beyond - 1, last + 1))
+    lifts = [(least_to_total(greater, first), least_to_total(greater, last + 1) - 1, last + 1)
+             for first, last in merged(never_comes(one) + never_comes(other))]
     return lifted(greater, lifts)

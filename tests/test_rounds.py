@@ -15,6 +15,7 @@ from tests.helper import (
 
 ROW = [(1, 1), (0, 2), (2, None), (0, 0)]
 SMALL = some_rows(711, 120, 6, 6) + [[], [(0, 0)], [(0, None)], [(3, None)] * 4, [(0, 1), (0, 1), (0, 1)], ROW]
+SMALL += [[(0, None)] * 4, [(0, 2), (2, 4), (2, None), (2, 5)]]
 WRONG_WORDS = [
     None, 0, True, "", "0000", {}, set(), (), (True, False, True, False), [], [True] * 3, [True] * 5, [1, 0, 1, 0],
     [True, False, True, None], [True, False, True, 0], [True, False, True, 1], [True, False, True, "True"], Like(),
@@ -81,6 +82,8 @@ class Tellings(unittest.TestCase):
         self.assertIs(is_consistent([(BIG, None)], [False], company=BIG - 1), True)
         self.assertIs(is_consistent([(BIG, None)], [True], company=BIG - 1), False)
         self.assertIs(is_consistent((), []), True)
+        self.assertIs(is_consistent([(0, 0), (1, 1)], [True, True]), False)
+        self.assertIs(is_consistent([(0, 0), (2, 2)], [True, False]), True)
 
     def test_how_many_by_going_through_all_words(self):
         for row in SMALL:
