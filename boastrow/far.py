@@ -82,18 +82,14 @@ def so_manieth(long, company, number):
 
 
 def passed_at(crowd, company, goals):
-    """A dict: of each goal how many of the hindmost people hear less than it."""
+    """A dict: of each of the goals, which rise, how many of the hindmost people hear less than it."""
     climb = Climb(crowd, company)
     passed = {}
     for goal in goals:
+        # Whoever never comes to the goal goes to the front, past all.
         if climb.value < goal:
             climb.go(crowd.size, goal)
-        if goal <= company:
-            passed[goal] = 0
-        elif climb.value == goal:
-            passed[goal] = climb.passed
-        else:
-            passed[goal] = crowd.size
+        passed[goal] = climb.passed
     return passed
 
 
@@ -168,8 +164,8 @@ def rest_of(long, company):
         return (0, company)
     count_true(crowd)
     last = crowd.points[-1]
-    # Each time adds somebody up to the rest, so that by so many times it is there, or behind all points for ever.
-    many = said_over(crowd, max(last - company, 0) + 1)
+    # Each time adds somebody up to the rest, so that by so many times it is there, or past all points for ever.
+    many = said_over(crowd, max(last - company, 0))
     total = come_of(many, company, many.size)
     if total >= last and crowd.manies[-1] > 0:
         return None
