@@ -5,8 +5,10 @@ A crowd is never changed once it is made, so that one may stand in many others, 
 
 # A short row of so many people at most is not parted any more.
 SHORT = 16
-# Up to so many people are walked person by person: that is sooner than to count where they need not be.
+# Up to so many people, or so many for each saying that is written, are walked person by person: that is sooner than to
+# count where they need not be.
 FEW = 1000
+OFTEN = 20
 # A crowd of so many levels at most is put into another one as it is.
 LOW = 2
 
@@ -20,20 +22,21 @@ class Crowd:
         # Of one that is said over the crowd that is.
         self.back = back
         self.times = times
+        # How many people they are, of how many sayings where each crowd that is said over is written once.
+        self.height = 0
         if back is None:
             self.size = len(row)
-            self.height = 0
+            self.written = len(row)
         elif front is None:
             self.size = times * back.size
-            self.height = 0
+            self.written = back.written
         else:
             self.size = front.size + back.size
+            self.written = front.written + back.written
             self.height = max(front.height, back.height) + 1
         # How many people would speak truly if all heard c: from each of the points on so many, as soon as it is asked.
         self.points = None
         self.manies = None
-        # The same people as one row, where they are few, as soon as it is asked.
-        self.flat = None
         # The same people turned about, as soon as it is asked.
         self.turned = None
 
@@ -153,12 +156,10 @@ def people_list(crowd):
 
 
 def flat_if_few(crowd):
-    """The crowd as one row, where its people are few; else as it is."""
-    if crowd.row is not None or crowd.size > FEW:
+    """The crowd as one row, where its people are few beside what is written; else as it is."""
+    if crowd.row is not None or (crowd.size > FEW and crowd.size > OFTEN * crowd.written):
         return crowd
-    if crowd.flat is None:
-        crowd.flat = row_crowd(people_list(crowd))
-    return crowd.flat
+    return row_crowd(people_list(crowd))
 
 
 def turned_about(crowd):

@@ -67,19 +67,33 @@ class Crowds(unittest.TestCase):
             self.assertEqual(people_of(crowd), row)
 
     def test_they_stay_low(self):
-        crowd = row_crowd([])
-        for at in range(2000):
-            crowd = put_together(crowd, row_crowd([(at, at)] * 16))
-        self.assertLess(crowd.height, 20)
-        for _ in range(50):
-            front, back = split_crowd(crowd, crowd.size // 3)
-            crowd = put_together(back, front)
-        self.assertLess(crowd.height, 25)
-        self.assertLess(gathered([row_crowd([(0, 1)] * 16)] * 1000).height, 12)
+        for ahead in (True, False):
+            crowd = row_crowd([])
+            for at in range(2000):
+                more = row_crowd([(at, at)] * 16)
+                crowd = put_together(more, crowd) if ahead else put_together(crowd, more)
+            self.assertLess(crowd.height, 14)
+            for part in (3, 7, 2, 5) * 12:
+                front, back = split_crowd(crowd, crowd.size // part)
+                crowd = put_together(back, front)
+            self.assertLess(crowd.height, 17)
+            self.assertEqual(crowd.size, 32000)
+        self.assertEqual(gathered([row_crowd([(0, 1)] * 16)] * 1024).height, 10)
+
+    def test_they_stay_low_said_over_and_parted_again_and_again(self):
+        chance = random.Random(706)
+        crowd = crowd_of([some_saying(chance, 60) for _ in range(200)])
+        for _ in range(12):
+            crowd = said_over(crowd, 90)
+            for _ in range(10):
+                front, back = split_crowd(crowd, chance.randint(0, crowd.size))
+                crowd = put_together(put_together(front, row_crowd([(5, 5)])), back)
+            self.assertLess(crowd.height, 16)
+        self.assertGreater(crowd.size, 10 ** 25)
 
     def test_climbs_and_wishes(self):
         self.climb_and_wish(random.Random(703))
-        with mock.patch("boastrow.crowds.FEW", -1):
+        with mock.patch("boastrow.crowds.FEW", -1), mock.patch("boastrow.crowds.OFTEN", -1):
             self.climb_and_wish(random.Random(704))
 
     def climb_and_wish(self, chance):

@@ -134,7 +134,7 @@ class LaidOutButCounted(LaidOut):
     """The same, as if there were no rows of few people that are walked person by person."""
 
     def setUp(self):
-        for name in ("boastrow.far.FEW", "boastrow.crowds.FEW"):
+        for name in ("boastrow.far.FEW", "boastrow.crowds.FEW", "boastrow.crowds.OFTEN"):
             patch = mock.patch(name, -1)
             patch.start()
             self.addCleanup(patch.stop)

@@ -144,7 +144,7 @@ class Deeds(unittest.TestCase):
             self.go_on(761 + seed, 40, (8, 60)[seed % 2])
 
     def test_the_same_when_few_are_not_walked(self):
-        with mock.patch("boastrow.crowds.FEW", 0):
+        with mock.patch("boastrow.crowds.FEW", -1), mock.patch("boastrow.crowds.OFTEN", -1):
             for seed in range(20):
                 self.go_on(791 + seed, 40, (8, 60)[seed % 2])
 
