@@ -7,6 +7,7 @@ counted, and nobody goes it.
 
 from boastrow.crowds import flat_if_few, saying_in
 from boastrow.levels import changes_by, stretch_to, wish_behind
+from boastrow.standing import many_to
 
 
 def changes_in(crowd):
@@ -54,22 +55,9 @@ def count_true(crowd):
             count_here(inner)
 
 
-def points_to(points, c):
-    """How many of the points are at most c."""
-    low = 0
-    high = len(points)
-    while low < high:
-        middle = (low + high) // 2
-        if points[middle] <= c:
-            low = middle + 1
-        else:
-            high = middle
-    return low
-
-
 def many_true(crowd, c):
     """How many of the crowd would speak truly if all heard c."""
-    at = points_to(crowd.points, c)
+    at = many_to(crowd.points, c)
     return crowd.manies[at - 1] if at > 0 else 0
 
 
@@ -147,7 +135,7 @@ class Climb:
             return
         count_true(self.crowd)
         points = self.crowd.points
-        at = points_to(points, self.value)
+        at = many_to(points, self.value)
         while self.passed < people and self.value != goal:
             stop = goal
             if at < len(points) and (goal is None or points[at] <= goal):
@@ -192,7 +180,7 @@ def wish_of(crowd, wish, people):
     count_true(crowd)
     points = crowd.points
     # Whoever has a wish hands on one less just where it would speak truly if it heard one less than the wish.
-    at = points_to(points, wish - 1)
+    at = many_to(points, wish - 1)
     left = people
     while at > 0:
         at -= 1

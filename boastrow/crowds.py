@@ -17,9 +17,9 @@ class Crowd:
     """A short row; or two crowds, one behind the other; or one crowd said over, perhaps but once."""
 
     def __init__(self, row, front, back, times):
+        # Of a short row only the row is told, of two crowds these, of one said over that as the back, and how often.
         self.row = row
         self.front = front
-        # Of one that is said over the crowd that is.
         self.back = back
         self.times = times
         # How many people they are, of how many sayings where each crowd that is said over is written once.
@@ -34,10 +34,10 @@ class Crowd:
             self.size = front.size + back.size
             self.written = front.written + back.written
             self.height = max(front.height, back.height) + 1
-        # How many people would speak truly if all heard c: from each of the points on so many, as soon as it is asked.
+        # As soon as it is asked: from each of the points on so many people would speak truly if all heard just that.
         self.points = None
         self.manies = None
-        # The same people turned about, as soon as it is asked.
+        # As soon as it is asked: the same people turned about.
         self.turned = None
 
 

@@ -166,47 +166,40 @@ def marks_on(shelf, mark):
     return is_mark(mark) and (not shelf or mark[0] > shelf[-1][0])
 
 
-def read_table(text):
-    """The table that the text writes."""
+def stands_anyhow(lot, stretch):
+    """Whether the stretch can stand behind those of a lot ahead of it: it always can."""
+    return True
+
+
+def read_each(text, read, fits):
+    """What the words of the text write, one by one: read tells it, and fits whether it can stand behind those ahead."""
     out = []
     for at, word in enumerate(words_of(text)):
-        step = read_pair(word)
-        if step is None or not steps_on(out, step):
+        thing = read(word)
+        if thing is None or not fits(out, thing):
             raise NoText(at)
-        out.append(step)
-    if not out:
-        raise NoText(0)
+        out.append(thing)
     return out
+
+
+def read_table(text):
+    """The table that the text writes."""
+    table = read_each(text, read_pair, steps_on)
+    if not table:
+        raise NoText(0)
+    return table
 
 
 def read_stretches(text):
     """The stretches that the text writes: they rise, and none touches the next one."""
-    out = []
-    for at, word in enumerate(words_of(text)):
-        stretch = read_saying(word)
-        if stretch is None or not stands_apart(out, stretch):
-            raise NoText(at)
-        out.append(stretch)
-    return out
+    return read_each(text, read_saying, stands_apart)
 
 
 def read_lot(text):
     """The lot that the text writes."""
-    out = []
-    for at, word in enumerate(words_of(text)):
-        stretch = read_saying(word)
-        if stretch is None:
-            raise NoText(at)
-        out.append(stretch)
-    return out
+    return read_each(text, read_saying, stands_anyhow)
 
 
 def read_shelf(text):
     """The shelf that the text writes."""
-    out = []
-    for at, word in enumerate(words_of(text)):
-        mark = read_pair(word)
-        if mark is None or not marks_on(out, mark):
-            raise NoText(at)
-        out.append(mark)
-    return out
+    return read_each(text, read_pair, marks_on)
